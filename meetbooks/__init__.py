@@ -1,0 +1,1 @@
+"""Meetbooks: what hands that meet can tell, from books that never grow."""
