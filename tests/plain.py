@@ -24,6 +24,7 @@ PAIR = "hands a b\ntaken a\nright b a\nmeet s a begins b\nmeet t a b\nmeet e a b
 THREE = "hands a b c\ntaken a b c\nmeet x a\nmeet y b\nmeet z a b\nmeet u c"
 CHAIN = "hands a b c\ntaken a b c\nmeet x a b\nmeet y b c\nmeet z c"
 AWAY = "hands a b c\ntaken a b\nright c b\nmeet x a\nmeet y b\nmeet z c\nmeet w a b\nmeet v b c"
+TWO = "hands a b\ntaken a b\nmeet x a\nmeet y b\nmeet z a b"
 LONE = "hands a b\ntaken a\nright b a\nmeet x b"
 ALONE = "hands a b c d e\ntaken a b c d e\nmeet p a\nmeet q b\nmeet r c\nmeet s d\nmeet t e"
 EIGHT = ("hands a b c d e\ntaken a b c d e\nmeet p a\nmeet q b\nmeet r c\nmeet s d\nmeet t e\n"
@@ -33,14 +34,12 @@ COMING = ("hands a b c d\ntaken a b\nright c a\nright d b\nmeet begin a begins c
           "meet own d\nmeet all a b d")
 HEIRS = ("hands a b c d\ntaken a b c\nright d b\nmeet x a b c ends b\nmeet y b a c gives d\n"
          "meet z c b ends c gives d\nmeet t c begins b\nmeet u a begins d\nmeet v b a begins d ends b")
-STILL_TEXTS = (ROW, THREE, CHAIN, AWAY, LONE, ALONE, EIGHT)
+STILL_TEXTS = (ROW, THREE, TWO, CHAIN, AWAY, LONE, ALONE, EIGHT)
 # Thirty standings can come in the first of these, and thirty-one in the second.
 THIRTY_STANDINGS = ("hands a b c d e\ntaken a b d e\nright c e\nmeet p a e ends a\nmeet q e a begins c ends e\n"
                     "meet r b c ends c\nmeet s a\nmeet t c b begins e\nmeet u d a e ends d\nmeet v a c begins e\n"
                     "meet w d b ends b")
-ONE_MORE_STANDING = ("hands a b c d e\ntaken a b d e\nright c e\nmeet p a e ends a\nmeet q e a begins c ends e\n"
-                  "meet r b c ends c\nmeet s a begins b\nmeet t c b begins e\nmeet u d a e ends d\nmeet v a c begins e\n"
-                  "meet w d b ends b")
+ONE_MORE_STANDING = THIRTY_STANDINGS.replace("meet s a", "meet s a begins b")
 MOVING_TEXTS = (EXAMPLE, PAIR, COMING, HEIRS, THIRTY_STANDINGS)
 TEXTS = STILL_TEXTS + MOVING_TEXTS
 
@@ -55,6 +54,9 @@ NO_MEETINGS = (None, True, 0, "x", "ab", (), (0,), (0, 0, 0), [0, 0], [], {}, {0
                (False, 0), (0, True), (0, False), (0, None), (None, 0), ("x", 0), (0, "0"), (-1, 0), (99, 0),
                (8, 0), (10 ** 299, 0), ((0,), 0), (0, (0,)), ([0], 0), ((0, 0), (0, 0)), (Hall(CHAIN), 0),
                nested(60, lambda value: (value,)), nested(60, lambda value: [value]))
+
+
+GREAT = 10 ** 300 - 1
 
 
 class Numbers:
@@ -81,6 +83,7 @@ class Plain:
     def __init__(self, text):
         self.kinds = []
         self.right = {}
+        self.kept_pasts = {}
         for line in text.split("\n"):
             words = line.split()
             if words[0] == "hands":
@@ -91,14 +94,17 @@ class Plain:
                 self.right[words[1]] = words[2]
             else:
                 self.kinds.append(self.kind_told(words))
+        self.lots = [self.lot_told(comers, begins) for comers, begins, _, _ in self.kinds]
 
     def kind_told(self, words):
         told = re.fullmatch(r"meet \w+((?: \w+)*?)(?: begins (\w+))?(?: ends (\w+))?(?: gives (\w+))?", " ".join(words))
         return told.group(1).split(), told.group(2), told.group(3), told.group(4)
 
-    def lot(self, kind):
-        comers, begins = self.kinds[kind][:2]
+    def lot_told(self, comers, begins):
         return [hand for hand, name in enumerate(self.hands) if name in comers or name == begins]
+
+    def lot(self, kind):
+        return self.lots[kind]
 
     def strangers(self, one, other):
         return not set(self.lot(one)) & set(self.lot(other))
@@ -191,6 +197,12 @@ class Plain:
 
     def pasts(self, weaving):
         """For each meeting the set of its number and of all that it hangs on, by the definition."""
+        kinds = tuple(kind for kind, _ in weaving)
+        if kinds not in self.kept_pasts:
+            self.kept_pasts[kinds] = self.pasts_anew(weaving)
+        return self.kept_pasts[kinds]
+
+    def pasts_anew(self, weaving):
         pasts = []
         for number, (kind, _) in enumerate(weaving):
             past = {number}
@@ -214,7 +226,8 @@ class Plain:
 
     def tops(self, weaving, numbers):
         pasts = self.pasts(weaving)
-        return tuple(one for one in sorted(numbers) if not any(one in pasts[other] for other in numbers if other != one))
+        return tuple(one for one in sorted(numbers)
+                     if not any(one in pasts[other] for other in numbers if other != one))
 
 
 def odd_hall_text(numbers, hands=None, kinds=None):
@@ -239,6 +252,15 @@ def odd_comers(numbers, names):
     if others and numbers.below(4) == 0:
         words += ["gives", numbers.one_of(others)]
     return " ".join(words)
+
+
+def odd_cases(seed, many, longest, loads=2):
+    """Halls of all sorts, each with a weaving."""
+    numbers = Numbers(seed)
+    for place in range(many):
+        text = TEXTS[place] if place < len(TEXTS) else odd_hall_text(numbers)
+        plain = Plain(text)
+        yield Hall(text), plain, plain.odd_weaving(numbers, 1 + numbers.below(longest), loads), numbers
 
 
 def exact(value):
@@ -269,3 +291,14 @@ def check_error(case, name, value, call, *given):
 def check_exact(case, told, value):
     """Fail unless both are the same, part by part."""
     case.assertEqual(exact(told), exact(value))
+
+
+def check_wrong_weavings(case, calls):
+    """Fail unless each call, of a hall and a weaving, raises BadWeaving for what is no weaving."""
+    for call in calls:
+        for value in NO_TUPLES:
+            check_error(case, "BadWeaving", -1, call, Hall(EIGHT), value)
+        for value in NO_MEETINGS:
+            check_error(case, "BadWeaving", 1, call, Hall(EIGHT), ((0, 1), value))
+        check_error(case, "BadWeaving", 1, call, Hall(AWAY), ((0, 0), (2, 0)))
+        check_error(case, "BadWeaving", 2, call, Hall(PAIR), ((0, 0), (2, 0), (1, 0)))

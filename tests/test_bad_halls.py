@@ -57,10 +57,12 @@ BAD = (
         "meet x a gives c gives d", "meet x a gives x", "meet x a b c gives b"])
     + bad_lines(5, HEAD, [
         "meet x a b ends b begins c", "meet x a gives d begins c", "meet x a b gives d ends b",
-        "meet x a b begins c gives d ends b", "meet x a b ends b begins c gives d", "meet x a b gives d ends b begins c",
+        "meet x a b begins c gives d ends b", "meet x a b ends b begins c gives d",
+        "meet x a b gives d ends b begins c",
         "meet x a b begins c ends b gives d e", "meet x a b begins c ends b gives", "meet x a b begins ends b gives d",
         "meet x a b begins c ends gives d", "meet x a b begins c ends b gives c", "meet x a b begins c ends b gives b"])
-    + bad_lines(6, HEAD + "meet x a\n", ["meet x a", "meet x b", "", " ", "right c a", "hands a b", "meet y a\t", "end"])
+    + bad_lines(6, HEAD + "meet x a\n", [
+        "meet x a", "meet x b", "", " ", "right c a", "hands a b", "meet y a\t", "end"])
     + bad_lines(7, HEAD + "meet x a\nmeet y b\n", ["meet x b begins d", "meet y a", "meet z f", "\n"])
 )
 

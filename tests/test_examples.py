@@ -17,6 +17,62 @@ POINT_4 = r"""
 [True, (('here', ()), ('here', (2,)), ('away',))]
 """
 
+POINT_5 = r"""
+>>> from meetbooks.halls import Hall
+>>> from meetbooks.stories import hand_row, is_beginning, least_weaving, led_over, same_story, shows_led_over, story_levels
+>>> hall = Hall('hands a b c\ntaken a b c\nmeet x a\nmeet y b\nmeet z a b\nmeet u c')
+>>> weaving = ((3, 0), (1, 0), (0, 5), (2, 0))
+>>> [story_levels(hall, weaving), least_weaving(hall, weaving)]
+[(((0, 5), (1, 0), (3, 0)), ((2, 0),)), ((0, 5), (1, 0), (2, 0), (3, 0))]
+>>> [hand_row(hall, weaving, 1), same_story(hall, weaving, ((1, 0), (0, 5), (3, 0))), is_beginning(hall, ((3, 0), (1, 0)), weaving)]
+[((1, 0), (2, 0)), ('parts', 0, 1), True]
+>>> least = least_weaving(hall, weaving)
+>>> [len(led_over(hall, weaving, least)), shows_led_over(hall, weaving, least, (1, 0, 1, 2)), shows_led_over(hall, weaving, least, (0, 1, 2, 0))]
+[4, True, True]
+"""
+
+POINT_6 = r"""
+>>> from meetbooks.halls import Hall
+>>> from meetbooks.pasts import by_turns, common_past, joined_pasts, meetings_left, news_of, news_of_news, past_of, view_of
+>>> hall = Hall('hands a b c\ntaken a b c\nmeet x a b\nmeet y b c\nmeet z c')
+>>> weaving = ((0, 0), (2, 0), (1, 0), (0, 0), (2, 0))
+>>> [past_of(hall, weaving, 3), view_of(hall, weaving, 2), news_of(hall, weaving, 2), news_of_news(hall, weaving, 2)]
+[(0, 1, 2, 3), (0, 1, 2, 4), (0, 2, 4), ((0, 0, None), (0, 2, 2), (0, 2, 4))]
+>>> [common_past(hall, weaving, 0, 2), by_turns(hall, weaving, (1, 2)), by_turns(hall, weaving, (0, 2))]
+[((0, 1, 2), ((2, 2, 1),)), ((3, 2), 2), ((3, 2, 0), None)]
+>>> [joined_pasts(hall, (((0, 0),), ((2, 0),))), joined_pasts(hall, (((0, 0), (1, 0)), ((2, 0),))), meetings_left(hall, weaving, ((2, 0), (0, 0)))]
+[('joined', ((0, 0), (2, 0))), ('parts', 0, 1, 2, 0), ('left', ((1, 0), (0, 0), (2, 0)))]
+"""
+
+POINT_7 = r"""
+>>> from meetbooks.counts import nth_story, story_count, story_number, stranger_series, stranger_sets, weaving_count, weavings_of
+>>> from meetbooks.halls import Hall
+>>> row = Hall('hands a b c d\ntaken a b c d\nmeet x a b\nmeet y c d\nmeet z b c')
+>>> [stranger_sets(row), stranger_series(row, 5), [story_count(row, 2), weaving_count(row, 2)]]
+[(1, 3, 1), (1, 3, 8, 21, 55), [8, 9]]
+>>> [nth_story(row, 2, 1), nth_story(row, 2, 3), story_number(row, ((1, 7), (0, 0)))]
+[((0, 0), (1, 0)), ((1, 0), (1, 0)), 1]
+>>> [weavings_of(row, ((0, 0), (1, 0), (2, 0))), weavings_of(row, ((2, 0), (0, 0), (1, 0), (0, 0)))]
+[2, 3]
+>>> pair = Hall('hands a b\ntaken a\nright b a\nmeet s a begins b\nmeet t a b\nmeet e a b ends b')
+>>> [[story_count(pair, many) for many in (1, 2, 3, 4)], nth_story(pair, 3, 2)]
+[[1, 2, 3, 5], ((0, 0), (2, 0), (0, 0))]
+"""
+
+# Of the example of point 8 what needs Scale alone, with what its text tells.
+POINT_8 = r"""
+>>> from meetbooks.halls import Hall
+>>> from meetbooks.scales import Scale
+>>> hall = Hall('hands a b c\ntaken a b c\nmeet x a b\nmeet y c\nmeet z b c')
+>>> sums = Scale(hall, 'sums\nx 1 0\ny 0 1\nz 2 1')
+>>> [Scale(hall, 'states 2\nx 1 1\ny 0 0\nz 0 1').size, Scale(hall, 'turns 5\nx 2 1\ny 3 2\nz 0 4').rows]
+[2, ((2, 1), (3, 2), (0, 4))]
+>>> waits = Scale(hall, 'waits\nx 3\ny 2\nz 1')
+>>> odd = Scale(hall, 'places 2\nx 1 0\ny 0 1\nz 0 1')
+>>> [scale.word for scale in (sums, waits, odd, Scale(hall, 'states 2\nx 1 0\ny 0 1\nz 0 1'), Scale(hall, 'sets\nx\ny\nz'))]
+['sums', 'waits', 'places', 'states', 'sets']
+"""
+
 
 class ExamplesTest(unittest.TestCase):
     def check(self, text):
@@ -29,6 +85,18 @@ class ExamplesTest(unittest.TestCase):
 
     def test_point_4(self):
         self.check(POINT_4)
+
+    def test_point_5(self):
+        self.check(POINT_5)
+
+    def test_point_6(self):
+        self.check(POINT_6)
+
+    def test_point_7(self):
+        self.check(POINT_7)
+
+    def test_scales_of_point_8(self):
+        self.check(POINT_8)
 
 
 if __name__ == "__main__":

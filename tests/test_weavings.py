@@ -5,10 +5,9 @@ import unittest
 from meetbooks.halls import Hall
 from meetbooks.weavings import are_strangers, lot_of, next_kinds, refusal, standing_of
 from tests.plain import (
-    AWAY, CHAIN, COMING, EIGHT, EXAMPLE, HEIRS, LONE, NO_INTEGERS, NO_MEETINGS, NO_TUPLES, PAIR, ROW, TEXTS, THREE,
-    Numbers, Plain, check_error, check_exact, error_of, nested, odd_hall_text)
+    AWAY, CHAIN, COMING, EIGHT, EXAMPLE, GREAT, HEIRS, LONE, NO_INTEGERS, NO_MEETINGS, NO_TUPLES, PAIR, ROW, TEXTS,
+    THREE, Numbers, Plain, check_error, check_exact, error_of, nested, odd_hall_text)
 
-GREAT = 10 ** 300 - 1
 FIVE = "hands a b c d e\n"
 
 
@@ -167,7 +166,8 @@ class RefusalTest(unittest.TestCase):
         head = FIVE + "taken a b\nright c a\nright d a\nright e b\n"
         for line, told in (("b begins c gives d", ("right", 2)), ("b begins d gives c", ("right", 3)),
                            ("b begins e gives d", ("right", 3)), ("a begins c gives e", ("right", 4)),
-                           ("a begins e gives c", ("right", 4)), ("b gives c", ("right", 2)), ("b begins c", ("right", 2)),
+                           ("a begins e gives c", ("right", 4)), ("b gives c", ("right", 2)),
+                           ("b begins c", ("right", 2)),
                            ("a b begins c gives e", None), ("b a begins c gives e", None), ("a begins c gives d", None),
                            ("b gives e", None)):
             check_exact(self, refusal(Hall(head + "meet x " + line), (), 0), told)
@@ -208,7 +208,8 @@ class StrangersTest(unittest.TestCase):
                     self.assertIs(are_strangers(hall, one, other), plain.strangers(one, other))
 
     def test_lots_hold_who_is_begun_but_not_who_is_given(self):
-        hall = Hall("hands a b c d\ntaken c d\nright a c\nright b d\nmeet x d c begins a ends d gives b\nmeet y c\nmeet z b")
+        hall = Hall("hands a b c d\ntaken c d\nright a c\nright b d\n"
+                    "meet x d c begins a ends d gives b\nmeet y c\nmeet z b")
         check_exact(self, [lot_of(hall, kind) for kind in range(3)], [(0, 2, 3), (2,), (1,)])
         self.assertEqual([are_strangers(hall, 0, 2), are_strangers(hall, 2, 0), are_strangers(hall, 0, 1)],
                          [True, True, False])
@@ -258,7 +259,8 @@ class WrongInputsTest(unittest.TestCase):
 
     def test_what_cannot_be_there(self):
         hall = Hall(EXAMPLE)
-        for number, kinds in ((0, (2,)), (1, (1, 1)), (1, (1, 4)), (1, (0, 2)), (3, (1, 2, 1, 1)), (1, (4, 1)), (2, (3, 4, 1))):
+        for number, kinds in ((0, (2,)), (1, (1, 1)), (1, (1, 4)), (1, (0, 2)), (3, (1, 2, 1, 1)), (1, (4, 1)),
+                              (2, (3, 4, 1))):
             self.check_weaving(hall, number, kinds_row(*kinds))
             self.check_weaving(hall, number, kinds_row(*kinds) + (None,))
         self.check_weaving(Hall(LONE), 0, ((0, 0),))

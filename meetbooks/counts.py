@@ -1,0 +1,203 @@
+"""Counting stories: how many there are, which one has which number, how many weavings one has.
+
+Both machines here have a row for each state: the pairs (kind, state behind it) of all kinds
+that can be there, ascending; state 0 is the first one.
+"""
+
+from meetbooks.checks import check_number
+from meetbooks.errors import NotStill, TooMany
+from meetbooks.halls import HERE
+from meetbooks.stories import least_woven, ready_meetings, rows_told
+from meetbooks.weavings import holders_behind, holders_of, share_no_hand, told_refusal
+
+MOST_MEETINGS = 60
+MOST_STANDINGS = 30
+MOST_CUTS = 10000
+
+
+def state_number(states, numbers, state):
+    """The number of the state, which is the next one if the state is new."""
+    if state not in numbers:
+        numbers[state] = len(states)
+        states.append(state)
+    return numbers[state]
+
+
+def standing_machine(hall):
+    """The machine of all weavings, a state for each standing that can come; raises TooMany(30)."""
+    states = [hall.first_holders]
+    numbers = {hall.first_holders: 0}
+    machine = []
+    while len(machine) < len(states):
+        holders = states[len(machine)]
+        row = []
+        for kind in range(len(hall)):
+            if told_refusal(hall, holders, kind) is None:
+                row.append((kind, state_number(states, numbers, holders_behind(hall, holders, kind))))
+        machine.append(row)
+        if len(states) > MOST_STANDINGS:
+            raise TooMany(MOST_STANDINGS)
+    return machine
+
+
+def stranger_table(hall):
+    """For each kind the kinds that are strangers to it, ascending."""
+    table = []
+    for kind in range(len(hall)):
+        table.append([other for other in range(len(hall)) if share_no_hand(hall, kind, other)])
+    return table
+
+
+def barred_behind(strangers, barred, kind):
+    """What may not come behind this kind in a least weaving, where barred could not come ahead of it.
+
+    A kind would have to stand further ahead if it is a stranger to all from some greater kind on.
+    """
+    return tuple([other for other in strangers if other < kind or other in barred])
+
+
+def story_machine(hall):
+    """The machine of the least weavings of stories; raises TooMany(30)."""
+    standings = standing_machine(hall)
+    strangers = stranger_table(hall)
+    states = [(0, ())]
+    numbers = {(0, ()): 0}
+    machine = []
+    while len(machine) < len(states):
+        standing, barred = states[len(machine)]
+        row = []
+        for kind, after in standings[standing]:
+            if kind not in barred:
+                state = (after, barred_behind(strangers[kind], barred, kind))
+                row.append((kind, state_number(states, numbers, state)))
+        machine.append(row)
+    return machine
+
+
+def ways_ahead(machine, many):
+    """For each number of meetings from 0 to many, from each state on, how many rows the machine has."""
+    ways = [[1] * len(machine)]
+    for _ in range(many):
+        last = ways[-1]
+        ways.append([sum([last[step[1]] for step in row]) for row in machine])
+    return ways
+
+
+def check_many(many):
+    """Raise BadNumber for what is not an integer from 0 to 60."""
+    check_number(many, MOST_MEETINGS + 1)
+
+
+def check_still(hall):
+    """Raise NotStill with the first kind that begins, ends or gives a hand."""
+    for kind, told in enumerate(hall.kinds):
+        if told[2:] != (None, None, None):
+            raise NotStill(kind)
+
+
+def story_count(hall, many):
+    """How many stories have just so many meetings."""
+    check_many(many)
+    return ways_ahead(story_machine(hall), many)[many][0]
+
+
+def weaving_count(hall, many):
+    """How many weavings have just so many meetings."""
+    check_many(many)
+    return ways_ahead(standing_machine(hall), many)[many][0]
+
+
+def stranger_sets(hall):
+    """How many sets of 0, 1, 2, .. kinds there are that are strangers to one another and can all be."""
+    check_still(hall)
+    strangers = stranger_table(hall)
+    able = [kind for kind in range(len(hall)) if all([hall.first_holders[hand] == HERE for hand in hall.lots[kind]])]
+    sets = [[]]
+    many = []
+    while sets:
+        many.append(len(sets))
+        sets = [[*some, kind] for some in sets for kind in able
+                if some[-1:] < [kind] and all([kind in strangers[other] for other in some])]
+    return tuple(many)
+
+
+def stranger_series(hall, many):
+    """The first many numbers of the power series that belongs to stranger_sets."""
+    sizes = stranger_sets(hall)
+    check_many(many)
+    series = []
+    for number in range(many):
+        further = 1 if number == 0 else 0
+        for size in range(1, min(number + 1, len(sizes))):
+            share = sizes[size] * series[number - size]
+            further = further + share if size & 1 else further - share
+        series.append(further)
+    return tuple(series)
+
+
+def nth_step(row, ways, number):
+    """(step, left): the step of the row by which the way with this number goes on, and its number behind it."""
+    left = number
+    place = 0
+    while left >= ways[row[place][1]]:
+        left -= ways[row[place][1]]
+        place += 1
+    return row[place], left
+
+
+def nth_story(hall, many, number):
+    """The least weaving of the story with this number among those of so many meetings."""
+    check_many(many)
+    machine = story_machine(hall)
+    ways = ways_ahead(machine, many)
+    check_number(number, ways[many][0])
+    state = 0
+    left = number
+    weaving = []
+    for further in reversed(range(many)):
+        step, left = nth_step(machine[state], ways[further], left)
+        weaving.append((step[0], 0))
+        state = step[1]
+    return tuple(weaving)
+
+
+def story_number(hall, weaving):
+    """The number of the weaving's story among those of as many meetings."""
+    holders_of(hall, weaving)
+    if len(weaving) > MOST_MEETINGS:
+        raise TooMany(MOST_MEETINGS)
+    machine = story_machine(hall)
+    ways = ways_ahead(machine, len(weaving))
+    bare = tuple([(meeting[0], 0) for meeting in weaving])
+    state = 0
+    number = 0
+    further = len(weaving)
+    for meeting in least_woven(hall, rows_told(hall, bare)):
+        further -= 1
+        number += sum([ways[further][step[1]] for step in machine[state] if step[0] < meeting[0]])
+        state = dict(machine[state])[meeting[0]]
+    return number
+
+
+def cut_behind(cut, lot):
+    """The cut that has one meeting of this lot more than this one."""
+    return tuple([many + 1 if hand in lot else many for hand, many in enumerate(cut)])
+
+
+def weavings_of(hall, weaving):
+    """How many weavings the story of the weaving has."""
+    holders_of(hall, weaving)
+    rows = rows_told(hall, weaving)
+    ways = {(0,) * len(rows): 1}
+    cuts = 1
+    for _ in weaving:
+        longer = {}
+        for cut, many in ways.items():
+            for meeting in ready_meetings(hall, rows, cut):
+                step = cut_behind(cut, hall.lots[meeting[0]])
+                longer[step] = longer.get(step, 0) + many
+        ways = longer
+        cuts += len(ways)
+        if cuts > MOST_CUTS:
+            raise TooMany(MOST_CUTS)
+    return sum(ways.values())
