@@ -1,6 +1,6 @@
 """What several parts of the package ask of single values."""
 
-from meetbooks.errors import BadHand, BadHands, BadKind, BadNumber
+from meetbooks.errors import BadHand, BadHands, BadKind, BadNumber, NotStill
 
 LETTERS = "abcdefghijklmnopqrstuvwxyz"
 FIGURES = "0123456789"
@@ -58,11 +58,14 @@ def check_hand(hall, hand):
         raise BadHand(hand)
 
 
+def are_below(value, many):
+    """Whether value is a tuple of integers from 0 to many - 1."""
+    return isinstance(value, tuple) and all([is_below(number, many) for number in value])
+
+
 def check_hands(hall, hands):
     """Raise BadHands for what is not an ascending tuple of one number of a hand or more."""
-    if not isinstance(hands, tuple) or len(hands) == 0:
-        raise BadHands(hands)
-    if not all([is_below(hand, len(hall.hands)) for hand in hands]) or not is_ascending(hands):
+    if not are_below(hands, len(hall.hands)) or len(hands) == 0 or not is_ascending(hands):
         raise BadHands(hands)
 
 
@@ -70,3 +73,10 @@ def check_number(value, many):
     """Raise BadNumber for what is not an integer from 0 to many - 1."""
     if not is_below(value, many):
         raise BadNumber(value)
+
+
+def check_still(hall):
+    """Raise NotStill with the first kind that begins, ends or gives a hand."""
+    for kind, told in enumerate(hall.kinds):
+        if told[2:] != (None, None, None):
+            raise NotStill(kind)

@@ -4,40 +4,21 @@ Both machines here have a row for each state: the pairs (kind, state behind it) 
 that can be there, ascending; state 0 is the first one.
 """
 
-from meetbooks.checks import check_number
-from meetbooks.errors import NotStill, TooMany
+from meetbooks.checks import check_number, check_still
+from meetbooks.errors import TooMany
 from meetbooks.halls import HERE
 from meetbooks.stories import least_woven, ready_meetings, rows_told
-from meetbooks.weavings import holders_behind, holders_of, share_no_hand, told_refusal
+from meetbooks.tours import Tour
+from meetbooks.weavings import holders_of, share_no_hand, steps_from
 
 MOST_MEETINGS = 60
 MOST_STANDINGS = 30
 MOST_CUTS = 10000
 
 
-def state_number(states, numbers, state):
-    """The number of the state, which is the next one if the state is new."""
-    if state not in numbers:
-        numbers[state] = len(states)
-        states.append(state)
-    return numbers[state]
-
-
 def standing_machine(hall):
     """The machine of all weavings, a state for each standing that can come; raises TooMany(30)."""
-    states = [hall.first_holders]
-    numbers = {hall.first_holders: 0}
-    machine = []
-    while len(machine) < len(states):
-        holders = states[len(machine)]
-        row = []
-        for kind in range(len(hall)):
-            if told_refusal(hall, holders, kind) is None:
-                row.append((kind, state_number(states, numbers, holders_behind(hall, holders, kind))))
-        machine.append(row)
-        if len(states) > MOST_STANDINGS:
-            raise TooMany(MOST_STANDINGS)
-    return machine
+    return Tour(hall.first_holders, lambda holders: steps_from(hall, holders), MOST_STANDINGS).rows
 
 
 def stranger_table(hall):
@@ -60,18 +41,16 @@ def story_machine(hall):
     """The machine of the least weavings of stories; raises TooMany(30)."""
     standings = standing_machine(hall)
     strangers = stranger_table(hall)
-    states = [(0, ())]
-    numbers = {(0, ()): 0}
-    machine = []
-    while len(machine) < len(states):
-        standing, barred = states[len(machine)]
-        row = []
+
+    def steps(state):
+        standing, barred = state
+        found = []
         for kind, after in standings[standing]:
             if kind not in barred:
-                state = (after, barred_behind(strangers[kind], barred, kind))
-                row.append((kind, state_number(states, numbers, state)))
-        machine.append(row)
-    return machine
+                found.append((kind, (after, barred_behind(strangers[kind], barred, kind))))
+        return found
+
+    return Tour((0, ()), steps).rows
 
 
 def ways_ahead(machine, many):
@@ -86,13 +65,6 @@ def ways_ahead(machine, many):
 def check_many(many):
     """Raise BadNumber for what is not an integer from 0 to 60."""
     check_number(many, MOST_MEETINGS + 1)
-
-
-def check_still(hall):
-    """Raise NotStill with the first kind that begins, ends or gives a hand."""
-    for kind, told in enumerate(hall.kinds):
-        if told[2:] != (None, None, None):
-            raise NotStill(kind)
 
 
 def story_count(hall, many):

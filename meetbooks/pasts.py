@@ -16,7 +16,7 @@ class Heard:
     """A weaving by numbers: the lots of its meetings, the rows of hands, the reaches of pasts and views."""
 
     def __init__(self, hall, weaving):
-        holders_of(hall, weaving)
+        self.holders = holders_of(hall, weaving)
         self.lots = [hall.lots[meeting[0]] for meeting in weaving]
         self.rows = [[] for name in hall.hands]
         self.views = [(0,) * len(hall.hands) for name in hall.hands]

@@ -11,13 +11,19 @@ from meetbooks.halls import HERE, standing_told
 
 def told_refusal(hall, holders, kind):
     """What refusal tells of a meeting of this kind where these are the holders."""
-    comers, begins, _, gives = hall.kinds[kind][1:]
-    for comer in comers:
+    for comer in hall.kinds[kind][1]:
         if holders[comer] != HERE:
             return ("away", comer)
+    hand = hand_out_of_reach(hall, holders, kind)
+    return None if hand is None else ("right", hand)
+
+
+def hand_out_of_reach(hall, holders, kind):
+    """The first hand that the kind begins or gives and that no comer has the right to begin, or None."""
+    comers, begins, _, gives = hall.kinds[kind][1:]
     for hand in (begins, gives):
         if hand is not None and holders[hand] not in comers:
-            return ("right", hand)
+            return hand
     return None
 
 
@@ -34,6 +40,15 @@ def holders_behind(hall, holders, kind):
         after = [heir if holder == ends else holder for holder in after]
         after[ends] = heir
     return tuple(after)
+
+
+def steps_from(hall, holders):
+    """(kind, holders behind it) of all kinds that can be where these are the holders, ascending."""
+    steps = []
+    for kind in range(len(hall)):
+        if told_refusal(hall, holders, kind) is None:
+            steps.append((kind, holders_behind(hall, holders, kind)))
+    return steps
 
 
 def walked(hall, weaving):
@@ -68,8 +83,7 @@ def standing_of(hall, weaving):
 
 def next_kinds(hall, weaving):
     """The ascending tuple of all kinds whose meetings can be behind the weaving."""
-    holders = holders_of(hall, weaving)
-    return tuple([kind for kind in range(len(hall)) if told_refusal(hall, holders, kind) is None])
+    return tuple([kind for kind, _ in steps_from(hall, holders_of(hall, weaving))])
 
 
 def refusal(hall, weaving, kind):

@@ -59,18 +59,80 @@ POINT_7 = r"""
 [[1, 2, 3, 5], ((0, 0), (2, 0), (0, 0))]
 """
 
-# Of the example of point 8 what needs Scale alone, with what its text tells.
 POINT_8 = r"""
 >>> from meetbooks.halls import Hall
 >>> from meetbooks.scales import Scale
+>>> from meetbooks.values import combined_values, meeting_value, scale_fits, scale_tells, value_between, value_of
 >>> hall = Hall('hands a b c\ntaken a b c\nmeet x a b\nmeet y c\nmeet z b c')
 >>> sums = Scale(hall, 'sums\nx 1 0\ny 0 1\nz 2 1')
->>> [Scale(hall, 'states 2\nx 1 1\ny 0 0\nz 0 1').size, Scale(hall, 'turns 5\nx 2 1\ny 3 2\nz 0 4').rows]
-[2, ((2, 1), (3, 2), (0, 4))]
+>>> some = ((0, 0), (1, 4), (2, 5))
+>>> [meeting_value(sums, (2, 5)), value_of(sums, some), value_between(sums, some, (0,), (0, 1, 2))]
+[7, 12, 11]
+>>> [scale_fits(Scale(hall, 'states 2\nx 1 1\ny 0 0\nz 0 1')), scale_fits(Scale(hall, 'turns 5\nx 2 1\ny 3 2\nz 0 4'))]
+[('clashes', 0, 1), ('fits',)]
 >>> waits = Scale(hall, 'waits\nx 3\ny 2\nz 1')
+>>> [meeting_value(waits, (0, 1)), combined_values(waits, meeting_value(waits, (0, 1)), meeting_value(waits, (2, 0)))]
+[((4, 4, None), (4, 4, None), (None, None, 0)), ((4, 5, 5), (4, 5, 5), (None, 1, 1))]
 >>> odd = Scale(hall, 'places 2\nx 1 0\ny 0 1\nz 0 1')
->>> [scale.word for scale in (sums, waits, odd, Scale(hall, 'states 2\nx 1 0\ny 0 1\nz 0 1'), Scale(hall, 'sets\nx\ny\nz'))]
-['sums', 'waits', 'places', 'states', 'sets']
+>>> [scale_tells(odd, Scale(hall, 'states 2\nx 1 0\ny 0 1\nz 0 1')), scale_tells(Scale(hall, 'sets\nx\ny\nz'), odd)]
+[('tells', 2), ('parts', (), ((0, 0),))]
+"""
+
+POINT_9 = r"""
+>>> from meetbooks.books import first_books, heard_value, known_value, later_news, meet, value_anew, value_beyond, whole_value
+>>> from meetbooks.halls import Hall
+>>> from meetbooks.scales import Scale
+>>> hall = Hall('hands a b c\ntaken a b c\nmeet x a b\nmeet y b c\nmeet z a c')
+>>> scale = Scale(hall, 'sums\nx 0 1\ny 0 1\nz 0 1')
+>>> a, b, c = first_books(scale)
+>>> a, b = meet(scale, (0, 1), (a, b))
+>>> b, c = meet(scale, (1, 2), (b, c))
+>>> [heard_value(scale, one) for one in (a, b, c)] + [value_anew(scale, a, c), value_anew(scale, c, a), whole_value(scale, (a, c))]
+[1, 3, 3, 2, 0, 3]
+>>> [later_news(scale, a, c, hand) for hand in (0, 1, 2)]
+['same', 'other', 'other']
+>>> a, c = meet(scale, (2, 4), (a, c))
+>>> [heard_value(scale, a), value_beyond(scale, a, (1,)), known_value(scale, a, 1), heard_value(scale, b)]
+[7, 4, 3, 3]
+"""
+
+POINT_10 = r"""
+>>> from meetbooks.fair import fairness, scale_of
+>>> from meetbooks.halls import Hall
+>>> from meetbooks.rules import Rule, machine_of, rule_lets, same_rule
+>>> row = Hall('hands a b c d\ntaken a b c d\nmeet x a b\nmeet y c d\nmeet z b c')
+>>> met, both = Rule(row, '?*,x,?*'), Rule(row, 'x,y|y,x')
+>>> [rule_lets(met, (2, 0)), () in met, ('x',) in met, machine_of(met)]
+[True, False, False, (((1, 0, 0), (1, 1, 1)), (1,))]
+>>> machine_of(both)
+(((1, 2, 3), (3, 4, 3), (4, 3, 3), (3, 3, 3), (3, 3, 3)), (4,))
+>>> [fairness(both), fairness(Rule(row, 'x,y')), fairness(Rule(row, '!(?*,x,z,?*)'))]
+[('fair',), ('unfair', (0, 1), (1, 0)), ('unfair', (0, 1, 2), (1, 0, 2))]
+>>> [scale_of(met), same_rule(met, Rule(row, '!(y|z)*')), same_rule(met, both)]
+['states 2\nx 1 1\ny 0 1\nz 0 1', ('same',), ('parts', (0,))]
+"""
+
+# What points 8 and 10 tell of their examples in words.
+IN_WORDS = r"""
+>>> from meetbooks.errors import BadRule
+>>> from meetbooks.halls import Hall
+>>> from meetbooks.rules import Rule, rule_lets
+>>> from meetbooks.scales import Scale
+>>> from meetbooks.values import value_of
+>>> hall = Hall('hands a b c\ntaken a b c\nmeet x a b\nmeet y c\nmeet z b c')
+>>> turns = Scale(hall, 'turns 5\nx 2 1\ny 3 2\nz 0 4')
+>>> [value_of(turns, ((0, 0), (1, 0))), value_of(turns, ((1, 0), (0, 0)))]
+[(1, 0), (1, 0)]
+>>> def place(text):
+...     try:
+...         Rule(hall, text)
+...     except BadRule as error:
+...         return error.value
+>>> [place(text) for text in ('x,q', 'x &', 'x , !', '(x&x)*', 'x x')]
+[2, 3, 4, 5, 2]
+>>> rows = [(), (0,), (0, 1), (1, 0), (0, 0, 0)]
+>>> [rule_lets(Rule(hall, '!x,y'), row) == rule_lets(Rule(hall, '!(x,y)'), row) for row in rows]
+[True, True, True, True, True]
 """
 
 
@@ -95,8 +157,17 @@ class ExamplesTest(unittest.TestCase):
     def test_point_7(self):
         self.check(POINT_7)
 
-    def test_scales_of_point_8(self):
+    def test_point_8(self):
         self.check(POINT_8)
+
+    def test_point_9(self):
+        self.check(POINT_9)
+
+    def test_point_10(self):
+        self.check(POINT_10)
+
+    def test_what_is_told_in_words(self):
+        self.check(IN_WORDS)
 
 
 if __name__ == "__main__":

@@ -27,8 +27,19 @@ FUNCTIONS = {
         "story_count": "hall many", "weaving_count": "hall many", "stranger_sets": "hall",
         "stranger_series": "hall many", "nth_story": "hall many number", "story_number": "hall weaving",
         "weavings_of": "hall weaving"},
+    "values": {
+        "empty_value": "scale", "meeting_value": "scale meeting", "combined_values": "scale one other",
+        "scale_fits": "scale", "value_of": "scale weaving", "value_between": "scale weaving inner outer",
+        "scale_tells": "one other"},
+    "books": {
+        "first_books": "scale", "meet": "scale meeting books", "heard_value": "scale book",
+        "value_beyond": "scale book hands", "known_value": "scale book hand", "value_anew": "scale one other",
+        "value_only": "scale book others", "whole_value": "scale books", "later_news": "scale one other hand",
+        "heard_standing": "scale book", "book_bound": "scale"},
+    "rules": {"rule_lets": "rule kinds", "machine_of": "rule", "same_rule": "rule other"},
+    "fair": {"fairness": "rule", "scale_of": "rule"},
 }
-CLASSES = {"halls": {"Hall": "text"}, "scales": {"Scale": "hall text"}}
+CLASSES = {"halls": {"Hall": "text"}, "scales": {"Scale": "hall text"}, "rules": {"Rule": "hall text"}}
 
 
 def tree_of(module):
