@@ -112,10 +112,53 @@ POINT_10 = r"""
 ['states 2\nx 1 1\ny 0 1\nz 0 1', ('same',), ('parts', (0,))]
 """
 
-# What points 8 and 10 tell of their examples in words.
+POINT_11 = r"""
+>>> from meetbooks.halls import Hall
+>>> from meetbooks.rules import Rule
+>>> from meetbooks.knowing import comes_to_know, common_word, knows, tellers
+>>> hall = Hall('hands a b c\ntaken a b c\nmeet x a b\nmeet y b c\nmeet z c')
+>>> rule = Rule(hall, '(x | z)* , y , (x | y | z)*')
+>>> x, y = (0, 0), (1, 0)
+>>> [knows(rule, (x, y), (0,)), [knows(rule, (x, y), (hand,))[:2] for hand in (1, 2)], knows(rule, (x,), (1,))[:2]]
+[('open', ((1, 0),), ()), [('surely', True), ('surely', True)], ('surely', False)]
+>>> knows(rule, (x, y), (2,))[2]
+((1, (('here', ()), ('here', ()), ('here', ()))),)
+>>> [comes_to_know(rule, (x, y, x)), tellers(rule)]
+[((2, 0),), (((1,), (2,)), (((0,), (), 1),))]
+>>> [common_word(rule, (y, x), (0, 1))[:2], common_word(rule, (y, x), (0, 2))]
+[('surely', True), ('open', ((1, 0),), ())]
+"""
+
+POINT_12 = r"""
+>>> from meetbooks.halls import Hall
+>>> from meetbooks.refusing import may_meet, needless_refusal
+>>> from meetbooks.rules import Rule
+>>> hall = Hall('hands a b\ntaken a b\nmeet x a\nmeet y b\nmeet z a b')
+>>> rule = Rule(hall, '(x*|y*),(z,(x*|y*))*')
+>>> [may_meet(rule, weaving, kind) for weaving, kind in (((), 0), (((0, 0),), 0), (((0, 0),), 2), (((1, 0),), 0))]
+[('breaks', ((1, 0),)), ('may',), ('may',), ('breaks', ((1, 0),))]
+>>> [needless_refusal(rule)[0], needless_refusal(Rule(hall, '?*'))]
+['refuses', ('never',)]
+"""
+
+# Of the example of point 13 what needs alone.py alone.
+POINT_13 = r"""
+>>> from meetbooks.alone import implied_row, own_lets, own_rows
+>>> from meetbooks.halls import Hall
+>>> from meetbooks.rules import Rule
+>>> hall = Hall('hands a b\ntaken a b\nmeet x a\nmeet y b\nmeet z a b')
+>>> both = Rule(hall, 'x,y|y,x|-')
+>>> [own_rows(both, 0), implied_row(both), implied_row(Rule(hall, '?*'))]
+[((0, 2), ((1, 2), (2, 2), (2, 2)), (0, 1)), ('implied', (0,)), ('none',)]
+>>> [own_lets(both, (1,)), own_lets(both, (1, 2))]
+[True, False]
+"""
+
+# What points 8, 10 and 12 tell of their examples in words.
 IN_WORDS = r"""
 >>> from meetbooks.errors import BadRule
 >>> from meetbooks.halls import Hall
+>>> from meetbooks.refusing import may_meet
 >>> from meetbooks.rules import Rule, rule_lets
 >>> from meetbooks.scales import Scale
 >>> from meetbooks.values import value_of
@@ -133,6 +176,10 @@ IN_WORDS = r"""
 >>> rows = [(), (0,), (0, 1), (1, 0), (0, 0, 0)]
 >>> [rule_lets(Rule(hall, '!x,y'), row) == rule_lets(Rule(hall, '!(x,y)'), row) for row in rows]
 [True, True, True, True, True]
+>>> pair = Hall('hands a b\ntaken a b\nmeet x a\nmeet y b\nmeet z a b')
+>>> rule = Rule(pair, '(x*|y*),(z,(x*|y*))*')
+>>> [may_meet(rule, weaving, 1) for weaving in ((), ((0, 0),), ((1, 0),))]
+[('breaks', ((0, 0),)), ('breaks', ((0, 0),)), ('may',)]
 """
 
 
@@ -165,6 +212,15 @@ class ExamplesTest(unittest.TestCase):
 
     def test_point_10(self):
         self.check(POINT_10)
+
+    def test_point_11(self):
+        self.check(POINT_11)
+
+    def test_point_12(self):
+        self.check(POINT_12)
+
+    def test_alone_of_point_13(self):
+        self.check(POINT_13)
 
     def test_what_is_told_in_words(self):
         self.check(IN_WORDS)

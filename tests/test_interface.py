@@ -38,6 +38,13 @@ FUNCTIONS = {
         "heard_standing": "scale book", "book_bound": "scale"},
     "rules": {"rule_lets": "rule kinds", "machine_of": "rule", "same_rule": "rule other"},
     "fair": {"fairness": "rule", "scale_of": "rule"},
+    "knowing": {
+        "knows": "rule weaving hands", "knows_by": "rule hands books", "settled": "rule weaving",
+        "comes_to_know": "rule weaving", "are_alike": "hall one other hands", "common_word": "rule weaving hands",
+        "tellers": "rule"},
+    "refusing": {
+        "may_meet": "rule weaving kind", "may_by_books": "rule kind books", "needless_refusal": "rule"},
+    "alone": {"own_rows": "rule hand", "own_lets": "rule kinds", "implied_row": "rule"},
 }
 CLASSES = {"halls": {"Hall": "text"}, "scales": {"Scale": "hall text"}, "rules": {"Rule": "hall text"}}
 

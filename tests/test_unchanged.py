@@ -1,0 +1,94 @@
+"""Points 2 and 3: what is passed in is not changed, equal calls return equal results, of tuples at every depth."""
+
+import unittest
+
+from meetbooks import alone, books, fair, knowing, refusing, rules, values
+from meetbooks.halls import Hall
+from meetbooks.rules import Rule
+from meetbooks.scales import Scale
+from tests.plain import CHAIN, PAIR, TWO, check_exact
+from tests.plain_books import Play
+from tests.plain_values import power_sums
+
+WEAVING = ((0, 3), (1, -2), (2, 7), (0, 1))
+LET = "!(?*,z,?*,z,?*)"
+
+
+def made(value):
+    """All that an object keeps, at every depth."""
+    if isinstance(value, (Hall, Scale, Rule)):
+        return (type(value).__name__, {name: made(kept) for name, kept in vars(value).items()})
+    if isinstance(value, (tuple, list)):
+        return (type(value).__name__, [made(part) for part in value])
+    if isinstance(value, dict):
+        return {key: made(part) for key, part in value.items()}
+    return vars(value) if hasattr(value, "__dict__") else value
+
+
+def arguments():
+    """(function, its arguments) of all functions of values, books, rules, fair, knowing, refusing and alone."""
+    hall, scale = Hall(TWO), Scale(Hall(TWO), power_sums(TWO))
+    places = Scale(hall, "places 2\nx 1 0\ny 0 1\nz 0 1")
+    rule, other = Rule(hall, LET), Rule(hall, "?*")
+    play, rule_play = Play(TWO, power_sums(TWO)), Play(TWO, fair.scale_of(rule))
+    for kind, load in WEAVING:
+        play.meet(kind, load)
+        rule_play.meet(kind, load)
+    a, b = play.books
+    both = tuple(rule_play.books)
+    return [
+        (values.empty_value, scale), (values.meeting_value, scale, (0, 5)),
+        (values.combined_values, places, (1, 0), (0, 1)),
+        (values.scale_fits, scale), (values.value_of, scale, WEAVING),
+        (values.value_between, scale, WEAVING, (0,), (0, 1)),
+        (values.scale_tells, places, places), (books.first_books, scale), (books.meet, scale, (2, 5), (a, b)),
+        (books.heard_value, scale, a), (books.value_beyond, scale, a, (1,)), (books.known_value, scale, a, 1),
+        (books.value_anew, scale, b, a), (books.value_only, scale, a, (b,)), (books.whole_value, scale, (a, b)),
+        (books.later_news, scale, a, b, 0), (books.heard_standing, scale, a), (books.book_bound, scale),
+        (rules.rule_lets, rule, (0, 1, 2)), (rules.machine_of, rule), (rules.same_rule, rule, other),
+        (fair.fairness, rule), (fair.fairness, Rule(hall, "x,y")), (fair.scale_of, rule),
+        (knowing.knows, rule, WEAVING, (0,)), (knowing.knows, other, WEAVING, (0, 1)),
+        (knowing.knows_by, rule, (0, 1), both),
+        (knowing.settled, rule, WEAVING), (knowing.comes_to_know, rule, WEAVING), (knowing.tellers, rule),
+        (knowing.are_alike, hall, WEAVING, WEAVING[:3], (0, 1)), (knowing.common_word, rule, WEAVING, (0, 1)),
+        (refusing.may_meet, rule, WEAVING, 2), (refusing.may_by_books, rule, 2, both),
+        (refusing.needless_refusal, rule),
+        (alone.own_rows, rule, 0), (alone.own_lets, rule, (2, 0)), (alone.implied_row, rule)]
+
+
+def types_in(value):
+    if isinstance(value, tuple):
+        return {tuple}.union(*[types_in(part) for part in value])
+    return {type(value)}
+
+
+class UnchangedTest(unittest.TestCase):
+    def test_arguments_stay_as_they_are(self):
+        for call, *given in arguments():
+            before = repr(made(given))
+            call(*given)
+            self.assertEqual(repr(made(given)), before, call.__name__)
+
+    def test_equal_calls_return_equal_results(self):
+        for (call, *given), (again, *equal) in zip(arguments(), arguments()):
+            told = call(*given)
+            check_exact(self, call(*given), told)
+            check_exact(self, again(*equal), told)
+
+    def test_tuples_at_every_depth(self):
+        for call, *given in arguments():
+            self.assertLessEqual(types_in(call(*given)), {tuple, int, str, bool, type(None)}, call.__name__)
+
+    def test_calls_that_raise_change_nothing(self):
+        scale, rule = Scale(Hall(PAIR), power_sums(PAIR)), Rule(Hall(CHAIN), "?*,y,?*")
+        for call, *given in ((books.meet, scale, (0, 1), ((), ())), (books.value_beyond, scale, (), [0]),
+                             (knowing.knows, rule, ((0, 0),), [0]), (refusing.may_meet, rule, (), 0),
+                             (knowing.settled, rule, [(0, 0)]), (alone.own_lets, rule, [0, 1])):
+            before = repr(made(given))
+            with self.assertRaises(ValueError):
+                call(*given)
+            self.assertEqual(repr(made(given)), before)
+
+
+if __name__ == "__main__":
+    unittest.main()
