@@ -7,13 +7,12 @@ that can be there, ascending; state 0 is the first one.
 from meetbooks.checks import check_number, check_still
 from meetbooks.errors import TooMany
 from meetbooks.halls import HERE
-from meetbooks.stories import least_woven, ready_meetings, rows_told
+from meetbooks.stories import cuts_tour, least_woven, rows_told
 from meetbooks.tours import Tour
 from meetbooks.weavings import holders_of, share_no_hand, steps_from
 
 MOST_MEETINGS = 60
 MOST_STANDINGS = 30
-MOST_CUTS = 10000
 
 
 def standing_machine(hall):
@@ -151,25 +150,14 @@ def story_number(hall, weaving):
     return number
 
 
-def cut_behind(cut, lot):
-    """The cut that has one meeting of this lot more than this one."""
-    return tuple([many + 1 if hand in lot else many for hand, many in enumerate(cut)])
-
-
 def weavings_of(hall, weaving):
     """How many weavings the story of the weaving has."""
     holders_of(hall, weaving)
-    rows = rows_told(hall, weaving)
-    ways = {(0,) * len(rows): 1}
-    cuts = 1
-    for _ in weaving:
-        longer = {}
-        for cut, many in ways.items():
-            for meeting in ready_meetings(hall, rows, cut):
-                step = cut_behind(cut, hall.lots[meeting[0]])
-                longer[step] = longer.get(step, 0) + many
-        ways = longer
-        cuts += len(ways)
-        if cuts > MOST_CUTS:
-            raise TooMany(MOST_CUTS)
-    return sum(ways.values())
+    tour = cuts_tour(hall, rows_told(hall, weaving))
+    ways = [0] * len(tour.states)
+    ways[0] = 1
+    for number, row in enumerate(tour.rows):
+        for _, after in row:
+            ways[after] += ways[number]
+    # The last cut is that of all meetings: no other one has as many.
+    return ways[-1]

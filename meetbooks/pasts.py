@@ -49,6 +49,12 @@ def numbers_within(heard, reach):
     return tuple(sorted(set(found)))
 
 
+def is_in_past(heard, number, later):
+    """Whether the meeting number is in the past of the meeting later."""
+    hand = heard.lots[number][0]
+    return heard.pasts[number][hand] <= heard.pasts[later][hand]
+
+
 def news_within(heard, reach):
     """For each hand the number of its last meeting within this reach, or None."""
     return tuple([row[reach[hand] - 1] if reach[hand] > 0 else None for hand, row in enumerate(heard.rows)])

@@ -2,7 +2,10 @@
 
 from meetbooks.checks import check_hand, is_below
 from meetbooks.errors import NotSame
-from meetbooks.weavings import holders_of, share_no_hand
+from meetbooks.tours import Tour
+from meetbooks.weavings import holders_behind, holders_of, share_no_hand, told_refusal
+
+MOST_CUTS = 10000
 
 
 def row_told(hall, weaving, hand):
@@ -47,18 +50,43 @@ def ready_meetings(hall, rows, done):
     return ready
 
 
-def least_woven(hall, rows):
-    """The least weaving that has these rows, which are those of some story."""
+def woven(hall, rows):
+    """(weaving, done): the least weaving within these rows that cannot be led on there, how much of each it has.
+
+    What can be next in the rows can be so until it is: all such weavings are of one story.
+    """
+    holders = hall.first_holders
     done = [0] * len(rows)
     weaving = []
-    ready = ready_meetings(hall, rows, done)
-    while ready:
-        meeting = min(ready)
+    while True:
+        ready = ready_meetings(hall, rows, done)
+        able = [meeting for meeting in ready if told_refusal(hall, holders, meeting[0]) is None]
+        if len(able) == 0:
+            return tuple(weaving), done
+        meeting = min(able)
         weaving.append(meeting)
+        holders = holders_behind(hall, holders, meeting[0])
         for hand in hall.lots[meeting[0]]:
             done[hand] += 1
-        ready = ready_meetings(hall, rows, done)
-    return tuple(weaving)
+
+
+def least_woven(hall, rows):
+    """The least weaving that has these rows, which are those of some story."""
+    return woven(hall, rows)[0]
+
+
+def cut_behind(cut, lot):
+    """The cut that has one meeting of this lot more than this one."""
+    return tuple([many + 1 if hand in lot else many for hand, many in enumerate(cut)])
+
+
+def cuts_tour(hall, rows):
+    """The tour through all cuts of the story that has these rows, by its meetings; raises TooMany(10000)."""
+    def steps(cut):
+        ready = sorted(ready_meetings(hall, rows, cut))
+        return [(meeting, cut_behind(cut, hall.lots[meeting[0]])) for meeting in ready]
+
+    return Tour((0,) * len(rows), steps, MOST_CUTS)
 
 
 def places_in(one, other):

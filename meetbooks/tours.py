@@ -6,7 +6,8 @@ from meetbooks.errors import TooMany
 class Tour:
     """All states that come from a first one, numbered as the least shortest rows of kinds that lead to them.
 
-    steps is a function that tells, for a state, the pairs (kind, state behind it), ascending by kinds.
+    steps is a function that tells, for a state, the pairs (kind, state behind it), ascending by kinds; where loads
+    count there are meetings in the place of kinds.
     """
 
     def __init__(self, start, steps, most=None):

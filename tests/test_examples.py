@@ -146,15 +146,58 @@ POINT_13 = r"""
 >>> from meetbooks.alone import implied_row, own_lets, own_rows
 >>> from meetbooks.halls import Hall
 >>> from meetbooks.rules import Rule
+>>> from meetbooks.speakers import speak_alike, Speaker, spoken_words
 >>> hall = Hall('hands a b\ntaken a b\nmeet x a\nmeet y b\nmeet z a b')
 >>> both = Rule(hall, 'x,y|y,x|-')
 >>> [own_rows(both, 0), implied_row(both), implied_row(Rule(hall, '?*'))]
 [((0, 2), ((1, 2), (2, 2), (2, 2)), (0, 1)), ('implied', (0,)), ('none',)]
 >>> [own_lets(both, (1,)), own_lets(both, (1, 2))]
 [True, False]
+>>> even = Speaker(hall, 'say even (?,?)*\nsay odd')
+>>> spoken_words(even, ((0, 0), (1, 0), (2, 0), (0, 0)))
+(('odd', 'odd', 'even'), ('odd', 'odd'))
+>>> odd = Speaker(hall, 'say odd ?,(?,?)*\nsay even')
+>>> [speak_alike(even, odd), speak_alike(even, Speaker(hall, 'say odd'))]
+[('alike',), ('parts', ((0, 0), (0, 0)))]
 """
 
-# What points 8, 10 and 12 tell of their examples in words.
+POINT_14 = r"""
+>>> from meetbooks.halls import Hall
+>>> from meetbooks.scales import Scale
+>>> from meetbooks.times import ends_of, heaviest_chain, lateness, round_mean, slack_of
+>>> hall = Hall('hands a b c\ntaken a b c\nmeet x a b\nmeet y a\nmeet z c')
+>>> scale = Scale(hall, 'waits\nx 3\ny 2\nz 1')
+>>> weaving = ((0, 0), (1, 0), (0, 1), (2, 0))
+>>> [ends_of(scale, weaving), heaviest_chain(scale, weaving), slack_of(scale, weaving, 3)]
+[(9, 9, 1), (9, (0, 1, 2)), 8]
+>>> [lateness(scale, weaving, 1, 1), lateness(scale, weaving, 0, 2), round_mean(scale, ((0, 0), (1, 0)))]
+[4, None, (5, 1, (0,))]
+"""
+
+POINT_15 = r"""
+>>> from meetbooks.cuts import could_fit, cuts_many, is_cut, must_fit, nth_cut, shows_widest, widest_meetings
+>>> from meetbooks.halls import Hall
+>>> hall = Hall('hands a b\ntaken a b\nmeet x a\nmeet y b\nmeet z a b')
+>>> weaving = ((0, 0), (1, 0), (2, 0), (0, 0))
+>>> [cuts_many(hall, weaving), nth_cut(hall, weaving, 4), is_cut(hall, weaving, (2, 1)), widest_meetings(hall, weaving)[0]]
+[6, (2, 2), False, (0, 1)]
+>>> [could_fit(hall, weaving, ((1,), (0, 1))), must_fit(hall, weaving, ((1,), (1,))), must_fit(hall, weaving, ((1,), (0,)))]
+[('could', (1, 0), (1, 1)), ('must',), ('misses', ((1, 0), (0, 0), (2, 0), (0, 0)))]
+>>> shows_widest(hall, weaving, ((0, 1), ((0, 2, 3), (1,))))
+True
+"""
+
+POINT_16 = r"""
+>>> from meetbooks.back import done_again, only_view, taken_back
+>>> from meetbooks.halls import Hall
+>>> hall = Hall('hands a b\ntaken a b\nmeet x a\nmeet y b\nmeet z a b')
+>>> weaving = ((0, 0), (1, 0), (2, 0), (0, 5))
+>>> [taken_back(hall, weaving, 0), only_view(hall, weaving, 0)]
+[(((1, 0),), ((0, 0), (2, 0), (0, 5))), (3,)]
+>>> done_again(hall, ((1, 0), (1, 7)), ((0, 0), (2, 0)))
+(((1, 0), (1, 7), (0, 0), (2, 0)), ())
+"""
+
 IN_WORDS = r"""
 >>> from meetbooks.errors import BadRule
 >>> from meetbooks.halls import Hall
@@ -180,6 +223,14 @@ IN_WORDS = r"""
 >>> rule = Rule(pair, '(x*|y*),(z,(x*|y*))*')
 >>> [may_meet(rule, weaving, 1) for weaving in ((), ((0, 0),), ((1, 0),))]
 [('breaks', ((0, 0),)), ('breaks', ((0, 0),)), ('may',)]
+>>> from meetbooks.cuts import nth_cut
+>>> from meetbooks.times import ends_of, moments_of
+>>> chain = Hall('hands a b c\ntaken a b c\nmeet x a b\nmeet y a\nmeet z c')
+>>> waits = Scale(chain, 'waits\nx 3\ny 2\nz 1')
+>>> [moments_of(waits, ((0, 0), (1, 0), (0, 1), (2, 0)))[2], ends_of(waits, ((0, 0), (1, 0)))]
+[(5, 9), (5, 3, 0)]
+>>> [nth_cut(pair, ((0, 0), (1, 0), (2, 0), (0, 0)), number) for number in range(6)]
+[(0, 0), (0, 1), (1, 0), (1, 1), (2, 2), (3, 2)]
 """
 
 
@@ -219,8 +270,17 @@ class ExamplesTest(unittest.TestCase):
     def test_point_12(self):
         self.check(POINT_12)
 
-    def test_alone_of_point_13(self):
+    def test_point_13(self):
         self.check(POINT_13)
+
+    def test_point_14(self):
+        self.check(POINT_14)
+
+    def test_point_15(self):
+        self.check(POINT_15)
+
+    def test_back_of_point_16(self):
+        self.check(POINT_16)
 
     def test_what_is_told_in_words(self):
         self.check(IN_WORDS)

@@ -45,8 +45,20 @@ FUNCTIONS = {
     "refusing": {
         "may_meet": "rule weaving kind", "may_by_books": "rule kind books", "needless_refusal": "rule"},
     "alone": {"own_rows": "rule hand", "own_lets": "rule kinds", "implied_row": "rule"},
+    "speakers": {"spoken_words": "speaker weaving", "speak_alike": "one other"},
+    "times": {
+        "moments_of": "scale weaving", "ends_of": "scale weaving", "heaviest_chain": "scale weaving",
+        "slack_of": "scale weaving number", "lateness": "scale weaving number hand", "round_mean": "scale weaving"},
+    "cuts": {
+        "is_cut": "hall weaving value", "cuts_many": "hall weaving", "nth_cut": "hall weaving number",
+        "could_fit": "hall weaving wishes", "must_fit": "hall weaving wishes", "widest_meetings": "hall weaving",
+        "shows_widest": "hall weaving value"},
+    "back": {
+        "taken_back": "hall weaving number", "done_again": "hall weaving gone", "only_view": "hall weaving hand"},
 }
-CLASSES = {"halls": {"Hall": "text"}, "scales": {"Scale": "hall text"}, "rules": {"Rule": "hall text"}}
+CLASSES = {
+    "halls": {"Hall": "text"}, "scales": {"Scale": "hall text"}, "rules": {"Rule": "hall text"},
+    "speakers": {"Speaker": "hall text"}}
 
 
 def tree_of(module):

@@ -2,10 +2,11 @@
 
 import unittest
 
-from meetbooks import alone, books, fair, knowing, refusing, rules, values
+from meetbooks import alone, back, books, cuts, fair, knowing, refusing, rules, speakers, times, values
 from meetbooks.halls import Hall
 from meetbooks.rules import Rule
 from meetbooks.scales import Scale
+from meetbooks.speakers import Speaker
 from tests.plain import CHAIN, PAIR, TWO, check_exact
 from tests.plain_books import Play
 from tests.plain_values import power_sums
@@ -16,7 +17,7 @@ LET = "!(?*,z,?*,z,?*)"
 
 def made(value):
     """All that an object keeps, at every depth."""
-    if isinstance(value, (Hall, Scale, Rule)):
+    if isinstance(value, (Hall, Scale, Rule, Speaker)):
         return (type(value).__name__, {name: made(kept) for name, kept in vars(value).items()})
     if isinstance(value, (tuple, list)):
         return (type(value).__name__, [made(part) for part in value])
@@ -26,7 +27,7 @@ def made(value):
 
 
 def arguments():
-    """(function, its arguments) of all functions of values, books, rules, fair, knowing, refusing and alone."""
+    """(function, its arguments) of all functions of values, books, rules, fair, knowing, refusing and alone, and later ones."""
     hall, scale = Hall(TWO), Scale(Hall(TWO), power_sums(TWO))
     places = Scale(hall, "places 2\nx 1 0\ny 0 1\nz 0 1")
     rule, other = Rule(hall, LET), Rule(hall, "?*")
@@ -53,7 +54,25 @@ def arguments():
         (knowing.are_alike, hall, WEAVING, WEAVING[:3], (0, 1)), (knowing.common_word, rule, WEAVING, (0, 1)),
         (refusing.may_meet, rule, WEAVING, 2), (refusing.may_by_books, rule, 2, both),
         (refusing.needless_refusal, rule),
-        (alone.own_rows, rule, 0), (alone.own_lets, rule, (2, 0)), (alone.implied_row, rule)]
+        (alone.own_rows, rule, 0), (alone.own_lets, rule, (2, 0)), (alone.implied_row, rule)] + later_arguments()
+
+
+def later_arguments():
+    """The same of all functions of speakers, times, cuts and back."""
+    hall = Hall(TWO)
+    one, other = Speaker(hall, "say a z\nsay b"), Speaker(hall, "say a ?,?\nsay b")
+    waits = Scale(hall, "waits\nx 1\ny 2\nz 3")
+    wishes = ((1, 2), (0, 2))
+    return [
+        (speakers.spoken_words, one, WEAVING), (speakers.speak_alike, one, other), (speakers.speak_alike, one, one),
+        (times.moments_of, waits, WEAVING), (times.ends_of, waits, WEAVING), (times.heaviest_chain, waits, WEAVING),
+        (times.slack_of, waits, WEAVING, 1), (times.lateness, waits, WEAVING, 0, 1),
+        (times.lateness, waits, WEAVING, 3, 1), (times.round_mean, waits, WEAVING),
+        (cuts.is_cut, hall, WEAVING, (2, 2)), (cuts.cuts_many, hall, WEAVING), (cuts.nth_cut, hall, WEAVING, 3),
+        (cuts.could_fit, hall, WEAVING, wishes), (cuts.must_fit, hall, WEAVING, wishes),
+        (cuts.must_fit, hall, WEAVING, ((1,), (0,))), (cuts.widest_meetings, hall, WEAVING),
+        (cuts.shows_widest, hall, WEAVING, ((0, 1), ((0, 2, 3), (1,)))), (back.taken_back, hall, WEAVING, 1),
+        (back.done_again, hall, WEAVING, ((0, 1), (2, 0))), (back.only_view, hall, WEAVING, 0)]
 
 
 def types_in(value):
@@ -83,7 +102,9 @@ class UnchangedTest(unittest.TestCase):
         scale, rule = Scale(Hall(PAIR), power_sums(PAIR)), Rule(Hall(CHAIN), "?*,y,?*")
         for call, *given in ((books.meet, scale, (0, 1), ((), ())), (books.value_beyond, scale, (), [0]),
                              (knowing.knows, rule, ((0, 0),), [0]), (refusing.may_meet, rule, (), 0),
-                             (knowing.settled, rule, [(0, 0)]), (alone.own_lets, rule, [0, 1])):
+                             (knowing.settled, rule, [(0, 0)]), (alone.own_lets, rule, [0, 1]),
+                             (cuts.could_fit, Hall(CHAIN), ((0, 0),), [(0,)]),
+                             (back.done_again, Hall(CHAIN), (), [(0, 0)]), (back.taken_back, Hall(CHAIN), (), [0])):
             before = repr(made(given))
             with self.assertRaises(ValueError):
                 call(*given)
