@@ -30,10 +30,10 @@ def is_ascending(values):
     return all([low < high for low, high in zip(values, values[1:])])
 
 
-def written_integer(word):
-    """The integer that is written in word as Python writes it, at most nine figures long; None for other words."""
+def written_integer(word, most=MOST_FIGURES):
+    """The integer that is written in word as Python writes it, with at most so many figures; None for other words."""
     figures = word.removeprefix("-")
-    if not 1 <= len(figures) <= MOST_FIGURES or not all([sign in FIGURES for sign in figures]):
+    if not 1 <= len(figures) <= most or not all([sign in FIGURES for sign in figures]):
         return None
     number = int(word)
     return number if str(number) == word else None

@@ -92,6 +92,19 @@ class Play:
         return "one" if its is None or (mine is not None and mine > its) else "other"
 
 
+def books_along(scale, weaving):
+    """The newest books of all hands behind the weaving, None for those that are away."""
+    books = list(first_books(scale))
+    for kind, load in weaving:
+        _, comers, begins, _, _ = scale.hall.kinds[kind]
+        new = meet(scale, (kind, load), tuple(books[comer] for comer in comers))
+        for hand, book in zip(comers, new):
+            books[hand] = book
+        if begins is not None:
+            books[begins] = new[-1]
+    return tuple(books)
+
+
 def odd_kind(play, numbers, silent=()):
     """Some kind that can be next, one without the silent hands if there is one; None if there is none."""
     kinds = play.plain.next_kinds(play.state)

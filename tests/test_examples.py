@@ -190,12 +190,45 @@ True
 POINT_16 = r"""
 >>> from meetbooks.back import done_again, only_view, taken_back
 >>> from meetbooks.halls import Hall
+>>> from meetbooks.logs import merged_logs
 >>> hall = Hall('hands a b\ntaken a b\nmeet x a\nmeet y b\nmeet z a b')
 >>> weaving = ((0, 0), (1, 0), (2, 0), (0, 5))
 >>> [taken_back(hall, weaving, 0), only_view(hall, weaving, 0)]
 [(((1, 0),), ((0, 0), (2, 0), (0, 5))), (3,)]
 >>> done_again(hall, ((1, 0), (1, 7)), ((0, 0), (2, 0)))
 (((1, 0), (1, 7), (0, 0), (2, 0)), ())
+>>> merged_logs(hall, (((0, 0), (2, 0)), ((2, 0), (1, 0))))
+('story', ((0, 0), (2, 0), (1, 0)))
+>>> merged_logs(hall, (((2, 0), (0, 0)), ((1, 0), (1, 0))))
+('stuck', ((1, 0), (1, 0)), ((2, 0), None))
+"""
+
+POINT_17 = r"""
+>>> from meetbooks.halls import Hall
+>>> from meetbooks.towns import finer_weaving, split_hand
+>>> hall = Hall('hands a b\ntaken a b\nmeet x a\nmeet y b\nmeet z a b')
+>>> split_hand(hall, 0, 'c').text
+'hands a b c\ntaken a b c\nmeet x a c\nmeet y b\nmeet z a c b'
+>>> other = Hall('hands a b\ntaken a b\nmeet p a\nmeet q b')
+>>> finer_weaving(hall, other, ((0,), (1,), (1, 0, 1)), ((2, 7), (0, 1)))
+((1, 7), (0, 0), (1, 0), (0, 1))
+"""
+
+POINT_18 = r"""
+>>> from meetbooks.desk import Desk
+>>> from meetbooks.halls import Hall
+>>> from meetbooks.journals import journal, read_journal
+>>> from meetbooks.scales import Scale
+>>> hall = Hall('hands a b\ntaken a b\nmeet m a b\nmeet p a\nmeet q b')
+>>> desk = Desk(Scale(hall, 'sums\nm 1 0\np 0 1\nq 0 1'))
+>>> [desk.meet(1, 2), desk.meet(2, 3), desk.together((0,)), desk.together((0, 1)), desk.mark('x')]
+[((0, 2),), ((1, 3),), 2, 5, None]
+>>> [desk.meet(0, 9), desk.take_back(0), desk.weaving, desk.place, desk.marks]
+[((0, 6), (1, 6)), ((1, 2), (0, 9)), ((2, 3),), 1, ('x',)]
+>>> [desk.join('x'), desk.weaving, read_journal(journal(desk)) == desk]
+[None, ((1, 2), (2, 3)), True]
+>>> journal(desk).split('\n')[10:]
+['|q 0 1', 'did p 2', 'did q 3', 'place 2', 'mark x', 'did p 2', 'did q 3']
 """
 
 IN_WORDS = r"""
@@ -279,8 +312,14 @@ class ExamplesTest(unittest.TestCase):
     def test_point_15(self):
         self.check(POINT_15)
 
-    def test_back_of_point_16(self):
+    def test_point_16(self):
         self.check(POINT_16)
+
+    def test_point_17(self):
+        self.check(POINT_17)
+
+    def test_point_18(self):
+        self.check(POINT_18)
 
     def test_what_is_told_in_words(self):
         self.check(IN_WORDS)

@@ -55,10 +55,24 @@ FUNCTIONS = {
         "shows_widest": "hall weaving value"},
     "back": {
         "taken_back": "hall weaving number", "done_again": "hall weaving gone", "only_view": "hall weaving hand"},
+    "logs": {"logs_of": "hall weaving", "merged_logs": "hall logs"},
+    "towns": {
+        "renamed_hall": "hall hands kinds", "split_hand": "hall hand name", "finer_weaving": "hall other rows weaving"},
+    "journals": {"journal": "desk", "read_journal": "text"},
 }
 CLASSES = {
     "halls": {"Hall": "text"}, "scales": {"Scale": "hall text"}, "rules": {"Rule": "hall text"},
-    "speakers": {"Speaker": "hall text"}}
+    "speakers": {"Speaker": "hall text"}, "desk": {"Desk": "scale"}}
+# What each class has in its own body, with the parameters behind the object itself.
+METHODS = {
+    ("halls", "Hall"): {"__len__": "", "__contains__": "value", "__eq__": "other"},
+    ("scales", "Scale"): {"__eq__": "other"},
+    ("rules", "Rule"): {"__contains__": "value", "__eq__": "other"},
+    ("speakers", "Speaker"): {"__eq__": "other"},
+    ("desk", "Desk"): {
+        "meet": "kind load", "back": "many", "on": "many", "together": "hands", "mark": "name", "to": "name",
+        "join": "name", "take_back": "number", "tried": "look keep", "copy": "", "__len__": "", "__eq__": "other"},
+}
 
 
 def tree_of(module):
@@ -80,6 +94,16 @@ class InterfaceTest(unittest.TestCase):
         for module, classes in CLASSES.items():
             defined = {node.name for node in tree_of(module).body if isinstance(node, ast.ClassDef)}
             self.assertEqual(set(classes) - defined, set(), module)
+
+    def test_methods_are_defined_in_their_classes(self):
+        for (module, name), methods in METHODS.items():
+            made = getattr(import_module("meetbooks." + module), name)
+            for method, parameters in methods.items():
+                self.assertIn(method, vars(made), name)
+                if not method.startswith("__"):
+                    self.assertEqual(parameters_of(vars(made)[method]), " ".join(["self", *parameters.split()]), method)
+        keep = inspect.signature(import_module("meetbooks.desk").Desk.tried).parameters["keep"]
+        self.assertEqual((keep.kind, keep.default), (keep.KEYWORD_ONLY, False))
 
     def test_parameters_have_the_names_of_the_document(self):
         for table in (FUNCTIONS, CLASSES):

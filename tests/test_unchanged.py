@@ -2,7 +2,9 @@
 
 import unittest
 
-from meetbooks import alone, back, books, cuts, fair, knowing, refusing, rules, speakers, times, values
+from meetbooks import (
+    alone, back, books, cuts, fair, journals, knowing, logs, refusing, rules, speakers, times, towns, values)
+from meetbooks.desk import Desk
 from meetbooks.halls import Hall
 from meetbooks.rules import Rule
 from meetbooks.scales import Scale
@@ -17,7 +19,7 @@ LET = "!(?*,z,?*,z,?*)"
 
 def made(value):
     """All that an object keeps, at every depth."""
-    if isinstance(value, (Hall, Scale, Rule, Speaker)):
+    if isinstance(value, (Hall, Scale, Rule, Speaker, Desk)):
         return (type(value).__name__, {name: made(kept) for name, kept in vars(value).items()})
     if isinstance(value, (tuple, list)):
         return (type(value).__name__, [made(part) for part in value])
@@ -27,7 +29,7 @@ def made(value):
 
 
 def arguments():
-    """(function, its arguments) of all functions of values, books, rules, fair, knowing, refusing and alone, and later ones."""
+    """(function, its arguments) of all functions from values on."""
     hall, scale = Hall(TWO), Scale(Hall(TWO), power_sums(TWO))
     places = Scale(hall, "places 2\nx 1 0\ny 0 1\nz 0 1")
     rule, other = Rule(hall, LET), Rule(hall, "?*")
@@ -58,7 +60,7 @@ def arguments():
 
 
 def later_arguments():
-    """The same of all functions of speakers, times, cuts and back."""
+    """The same of all functions from speakers on."""
     hall = Hall(TWO)
     one, other = Speaker(hall, "say a z\nsay b"), Speaker(hall, "say a ?,?\nsay b")
     waits = Scale(hall, "waits\nx 1\ny 2\nz 3")
@@ -72,7 +74,21 @@ def later_arguments():
         (cuts.could_fit, hall, WEAVING, wishes), (cuts.must_fit, hall, WEAVING, wishes),
         (cuts.must_fit, hall, WEAVING, ((1,), (0,))), (cuts.widest_meetings, hall, WEAVING),
         (cuts.shows_widest, hall, WEAVING, ((0, 1), ((0, 2, 3), (1,)))), (back.taken_back, hall, WEAVING, 1),
-        (back.done_again, hall, WEAVING, ((0, 1), (2, 0))), (back.only_view, hall, WEAVING, 0)]
+        (back.done_again, hall, WEAVING, ((0, 1), (2, 0))), (back.only_view, hall, WEAVING, 0),
+        (logs.logs_of, hall, WEAVING), (logs.merged_logs, hall, (((0, 3), (2, 7)), ((2, 7),))),
+        (logs.merged_logs, hall, (((0, 3), (2, 7)), ((2, 5),))),
+        (towns.finer_weaving, hall, hall, ((0, 0), (1,), (2, 0)), WEAVING),
+        (journals.journal, desk())]
+
+
+def desk():
+    """A desk that has been gone back in, with a mark."""
+    made_now = Desk(Scale(Hall(TWO), power_sums(TWO)))
+    for kind, load in WEAVING:
+        made_now.meet(kind, load)
+    made_now.mark("x")
+    made_now.back(1)
+    return made_now
 
 
 def types_in(value):
@@ -97,6 +113,24 @@ class UnchangedTest(unittest.TestCase):
     def test_tuples_at_every_depth(self):
         for call, *given in arguments():
             self.assertLessEqual(types_in(call(*given)), {tuple, int, str, bool, type(None)}, call.__name__)
+
+    def test_halls_and_desks_that_are_made(self):
+        hall, text = Hall(TWO), journals.journal(desk())
+        for call, given in ((towns.renamed_hall, (hall, ("x", "y"), ("a", "b", "c"))), (towns.split_hand, (hall, 0, "c")),
+                            (journals.read_journal, (text,)), (Desk.copy, (desk(),))):
+            before = repr(made(given))
+            first, second = call(*given), call(*given)
+            self.assertEqual(repr(made(given)), before)
+            self.assertTrue(first == second)
+            self.assertEqual(repr(made(first)), repr(made(second)))
+        check_exact(self, journals.read_journal(text).meetings, WEAVING)
+
+    def test_what_desks_tell(self):
+        one = desk()
+        told = [one.meetings, one.weaving, one.standing, one.books, one.marks, one.meet(2, 1), one.take_back(0)]
+        for value in told:
+            self.assertLessEqual(types_in(value), {tuple, int, str, bool, type(None)})
+        self.assertEqual([type(one.place), type(len(one))], [int, int])
 
     def test_calls_that_raise_change_nothing(self):
         scale, rule = Scale(Hall(PAIR), power_sums(PAIR)), Rule(Hall(CHAIN), "?*,y,?*")
