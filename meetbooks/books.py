@@ -90,6 +90,18 @@ def meet(scale, meeting, books):
     return tuple(new)
 
 
+def books_behind(scale, books, meeting):
+    """The books of all hands, None for those away, behind one more meeting, which can be."""
+    comers, begins = scale.hall.kinds[meeting[0]][1:3]
+    new = meet(scale, meeting, tuple([books[comer] for comer in comers]))
+    after = list(books)
+    for hand, book in zip(comers, new):
+        after[hand] = book
+    if begins is not None:
+        after[begins] = new[-1]
+    return tuple(after)
+
+
 def heard_value(scale, book):
     """The value of all that the hand of the book has heard."""
     check_fits(scale)

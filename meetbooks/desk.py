@@ -1,8 +1,8 @@
 """A desk: a row of meetings that grows, is gone back and on in, marked, joined, and taken back."""
 
 from meetbooks.back import taken_back
-from meetbooks.books import first_books, heard_value, meet, whole_value
-from meetbooks.checks import check_kind, check_number, is_integer, is_name
+from meetbooks.books import books_behind, first_books, heard_value, whole_value
+from meetbooks.checks import check_kind, is_integer, is_name
 from meetbooks.courses import check_here
 from meetbooks.errors import BadName, BadNumber, Held, NoMark, Parts, Refused, TooFar
 from meetbooks.halls import standing_told
@@ -21,14 +21,8 @@ class Moment:
 
 def moment_behind(scale, moment, meeting):
     """The moment behind one more meeting, which can be."""
-    comers, begins = scale.hall.kinds[meeting[0]][1:3]
-    new = meet(scale, meeting, tuple([moment.books[comer] for comer in comers]))
-    books = list(moment.books)
-    for hand, book in zip(comers, new):
-        books[hand] = book
-    if begins is not None:
-        books[begins] = new[-1]
-    return Moment(holders_behind(scale.hall, moment.holders, meeting[0]), tuple(books))
+    holders = holders_behind(scale.hall, moment.holders, meeting[0])
+    return Moment(holders, books_behind(scale, moment.books, meeting))
 
 
 def check_many(value):
@@ -52,9 +46,8 @@ class Desk:
         return len(self.weaving)
 
     def __eq__(self, other):
-        if not isinstance(other, Desk) or self.scale != other.scale:
-            return False
-        return self.meetings == other.meetings and self.place == other.place and self.marked == other.marked
+        return (isinstance(other, Desk) and self.scale == other.scale and self.meetings == other.meetings
+                and self.place == other.place and self.marked == other.marked)
 
     def keep_marks(self, marked):
         """Have these weavings by their names as marks."""
@@ -139,7 +132,6 @@ class Desk:
 
     def take_back(self, number):
         """Take back the meeting with this number and all that hang on it; returns these."""
-        check_number(number, len(self.weaving))
         left, gone = taken_back(self.scale.hall, self.weaving, number)
         self.hold(left)
         return gone

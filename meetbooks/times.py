@@ -135,11 +135,11 @@ def round_mean(scale, weaving):
     # What the value of the round has for two hands is the weight of the heaviest way from the one to the other.
     waits = row_worth(scale, weaving)
     best = ()
-    top = 0
+    most = 0
     for ring in sorted(rings_of(waits, [hand for hand, row in enumerate(heard.rows) if row])):
         total = sum([waits[hand][after] for hand, after in zip(ring, ring[1:] + ring[:1])])
-        if best == () or total * len(best) > top * len(ring):
+        if best == () or total * len(best) > most * len(ring):
             best = ring
-            top = total
-    shared = gcd(top, len(best))
-    return top // shared, len(best) // shared, best
+            most = total
+    shared = gcd(most, len(best))
+    return most // shared, len(best) // shared, best

@@ -56,8 +56,11 @@ class Voice:
                      for hand in range(len(self.plain.hands)))
 
     def word_by_machines(self, kinds):
-        for word, machine in zip(self.words, self.machines):
-            if run(machine, kinds) in machine[1]:
+        return self.word_of([run(machine, kinds) for machine in self.machines])
+
+    def word_of(self, states):
+        for word, machine, state in zip(self.words, self.machines, states):
+            if state in machine[1]:
                 return word
         return self.words[-1]
 
@@ -90,6 +93,43 @@ def parting(one, other, longest):
             if len(past) == many and one.word_by_machines(past) != other.word_by_machines(past):
                 return weaving
     return None
+
+
+def parting_by_unions(one, other):
+    """The same of whatever length: each meeting shares a hand with one behind it, or is the last one.
+
+    With each row it is guessed which hands come behind it; this has to hold meeting by meeting.
+    """
+    plain, machines = one.plain, one.machines + other.machines
+    many = len(one.machines)
+    hands = range(len(plain.hands))
+    lots = {kind: frozenset(plain.lot(kind)) for kind in open_kinds(plain)}
+    unions = [frozenset(some) for size in range(1, len(hands) + 1) for some in itertools.combinations(hands, size)]
+    level = {((0,) * len(machines), union): () for union in unions}
+    seen = set(level)
+    while level:
+        found = [row for (states, union), row in level.items()
+                 if not union and one.word_of(states[:many]) != other.word_of(states[many:])]
+        if found:
+            return tuple((kind, 0) for kind in min(found))
+        further = {}
+        for (states, union), row in level.items():
+            for kind, lot in lots.items():
+                after = tuple(machine[0][state][kind] for machine, state in zip(machines, states))
+                for rest in unions_behind(union, lot):
+                    if (after, rest) not in seen:
+                        further[after, rest] = min(further.get((after, rest), row + (kind,)), row + (kind,))
+        seen |= set(further)
+        level = further
+    return None
+
+
+def unions_behind(union, lot):
+    """All sets of hands that may come behind a meeting of this lot, with which they are the union."""
+    if not lot <= union:
+        return []
+    kept = [frozenset(some) for size in range(1, len(lot) + 1) for some in itertools.combinations(sorted(lot), size)]
+    return [union - lot | some for some in kept] + ([frozenset()] if lot == union else [])
 
 
 def speaker_text(numbers, hall_text, many=None):

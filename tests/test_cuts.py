@@ -95,7 +95,8 @@ class CutsTest(unittest.TestCase):
 
     def test_wrong_weavings(self):
         check_wrong_weavings(self, [
-            cuts_many, lambda hall, weaving: is_cut(hall, weaving, None), lambda hall, weaving: nth_cut(hall, weaving, None),
+            cuts_many, lambda hall, weaving: is_cut(hall, weaving, None),
+            lambda hall, weaving: nth_cut(hall, weaving, None),
             lambda hall, weaving: could_fit(hall, weaving, None), lambda hall, weaving: must_fit(hall, weaving, None),
             widest_meetings, lambda hall, weaving: shows_widest(hall, weaving, None),
             lambda hall, weaving: nth_cut(hall, weaving, 0), lambda hall, weaving: could_fit(hall, weaving, EASY)])
@@ -212,7 +213,8 @@ class MustTest(unittest.TestCase):
         # x with the load 5 and y: to pass neither (1, 0) nor (0, 0) nor the end is not possible, but y can be first.
         hall, weaving = Hall(TWO), ((0, 5), (1, -3), (2, 0), (1, 0), (0, 0))
         check_exact(self, must_fit(hall, weaving, ((1,), (0,))), ("misses", ((1, -3), (0, 5), (2, 0), (0, 0), (1, 0))))
-        check_exact(self, must_fit(hall, weaving, ((1, 3), (0, 2))), ("misses", ((1, -3), (0, 5), (2, 0), (1, 0), (0, 0))))
+        check_exact(self, must_fit(hall, weaving, ((1, 3), (0, 2))),
+                    ("misses", ((1, -3), (0, 5), (2, 0), (1, 0), (0, 0))))
         check_exact(self, must_fit(hall, weaving, ((2,), (2,))), ("must",))
 
     def test_all_weavings_of_one_story(self):

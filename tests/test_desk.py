@@ -211,8 +211,9 @@ class ErrorsTest(unittest.TestCase):
             check_error(self, "TooFar", 1, self.desk.on, value)
 
     def test_hands_together(self):
-        for value in NO_TUPLES + ((), (1, 0), (0, 0), (4,), (-1,), (0, 4), (True,), (False, 1), (0, True), (None,), ("0",),
-                                  [0], ((0,),), (0, 1, 1), (2,), (0, 2), (0, 1, 2, 3), (GREAT,), (0, 1, 2)):
+        for value in NO_TUPLES + (
+                (), (1, 0), (0, 0), (4,), (-1,), (0, 4), (True,), (False, 1), (0, True), (None,), ("0",), [0], ((0,),),
+                (0, 1, 1), (2,), (0, 2), (0, 1, 2, 3), (GREAT,), (0, 1, 2)):
             check_error(self, "BadHands", value, self.desk.together, value)
         check_exact(self, [self.desk.together((0, 1, 3)), self.desk.together((0,))], [1, 0])
 

@@ -15,8 +15,8 @@ from tests.test_desk import desks, did, odd_deed
 
 GOOD = ("hall\n|hands a b\n|taken a\n|right b a\n|meet s a begins b\n|meet t a b\n|meet e a b ends b\nscale\n"
         "|sums\n|s 0 1\n|t 1 0\n|e 0 -2\ndid s 5\ndid t -7\nplace 1\nmark k\nmark m\ndid s 0\ndid e 12")
-BOTH = ("hall\n|hands a b\n|taken a b\n|meet x a\n|meet y b\n|meet z a b\nscale\n|both\n|states 2\n|x 1 0\n|y 0 1\n|z 0 0\n"
-        "|and\n|sets\n|x u\n|y v w\n|z\n|end\nplace 0")
+BOTH = ("hall\n|hands a b\n|taken a b\n|meet x a\n|meet y b\n|meet z a b\nscale\n|both\n|states 2\n|x 1 0\n|y 0 1\n"
+        "|z 0 0\n|and\n|sets\n|x u\n|y v w\n|z\n|end\nplace 0")
 
 
 class JournalTest(unittest.TestCase):
@@ -105,13 +105,12 @@ class ReadTest(unittest.TestCase):
         for text in (GOOD, BOTH):
             lines = text.split("\n")
             for at in range(len(lines)):
-                for changed in (lines[:at] + lines[at + 1:], lines[:at + 1] + lines[at:], lines[:at] + [""] + lines[at:],
-                                lines[:at] + [" "] + lines[at + 1:], lines[:at] + ["|"] + lines[at:],
-                                lines[:at] + lines[at:at + 2][::-1] + lines[at + 2:], lines[:at] + [lines[at] + " "] + lines[at + 1:],
-                                lines[:at] + [" " + lines[at]] + lines[at + 1:], lines[:at] + ["place 0"] + lines[at:],
-                                lines[:at] + ["mark a"] + lines[at:], lines[:at] + ["did s 0"] + lines[at:],
-                                lines[:at] + ["scale"] + lines[at:], lines[:at] + ["hall"] + lines[at:]):
-                    told = "\n".join(changed)
+                ahead, line, behind = lines[:at], lines[at], lines[at + 1:]
+                for inner in ([], [line, line], ["", line], [" "], ["|", line], behind[:1] + [line], [line + " "],
+                              [" " + line], ["place 0", line], ["mark a", line], ["did s 0", line], ["scale", line],
+                              ["hall", line]):
+                    is_exchanged = inner == behind[:1] + [line]
+                    told = "\n".join(ahead + inner + (behind[1:] if is_exchanged else behind))
                     self.check_text(told, bad_line(told))
 
     def test_numbers_written_otherwise(self):
@@ -120,20 +119,23 @@ class ReadTest(unittest.TestCase):
             self.check_text(GOOD.replace("did s 5", "did s " + load), 13)
         for load in ("0", "-1", "1" * 1000, "-" + "9" * 1000):
             self.check_text(GOOD.replace("did s 5", "did s " + load), None)
-        for place in ("3", "+1", "01", "00", "-1", "-0", "1.", "", "one", "1 ", " 1", "1 1", "1" * 10, "0000000001", "2x"):
+        for place in ("3", "+1", "01", "00", "-1", "-0", "1.", "", "one", "1 ", " 1", "1 1", "1" * 10, "0000000001",
+                      "2x"):
             self.check_text(GOOD.replace("place 1", "place " + place), 15)
         for place in ("0", "1", "2"):
             self.check_text(GOOD.replace("place 1", "place " + place), None)
 
     def test_what_the_lines_tell(self):
         for old, new, number in (
-                ("hall\n|", "Hall\n|", 1), ("hall\n|", "hall \n|", 1), ("hall\n|", "|hall\n|", 1), ("scale", "Scale", 8),
-                ("|hands a b", "|hands a a", 2), ("|hands", "hands", 2), ("|hands", "||hands", 2), ("|hands", "| hands", 2),
+                ("hall\n|", "Hall\n|", 1), ("hall\n|", "hall \n|", 1), ("hall\n|", "|hall\n|", 1),
+                ("scale", "Scale", 8), ("|hands a b", "|hands a a", 2), ("|hands", "hands", 2),
+                ("|hands", "||hands", 2), ("|hands", "| hands", 2),
                 ("|taken a", "|taken c", 3), ("|right b a", "|right b b", 4), ("|meet t a b", "|meet s a b", 6),
                 ("|meet t a b", "|meet t a b ends c", 6), ("|sums", "|sum", 9), ("|s 0 1", "|t 0 1", 10),
                 ("|e 0 -2", "|e 0 -2 1", 12), ("|e 0 -2", "|e 0 -2\n|e 0 -2", 13), ("did s 5", "did q 5", 13),
                 ("did s 5", "did t 5", 13), ("did s 5", "did 5", 13), ("did s 5", "did s", 13), ("did s 5", "did", 13),
-                ("did s 5", "did s 5 5", 13), ("did s 5", "dids 5", 13), ("did s 5", "meet s 5", 13), ("did t -7", "did s -7", 14),
+                ("did s 5", "did s 5 5", 13), ("did s 5", "dids 5", 13), ("did s 5", "meet s 5", 13),
+                ("did t -7", "did s -7", 14),
                 ("place 1", "place", 15), ("place 1", "at 1", 15), ("place 1", "place 1\nplace 1", 16),
                 ("place 1", "place 1\ndid t 1", 16), ("mark k", "mark", 16), ("mark k", "mark K", 16),
                 ("mark k", "mark k k", 16), ("mark k", "mark abcdefghi", 16), ("mark k", "marks k", 16),
@@ -192,9 +194,8 @@ class ReadTest(unittest.TestCase):
             lines = journal(desk).split("\n")
             for _ in range(8):
                 at = numbers.below(len(lines))
-                changed = numbers.one_of((lines[:at] + lines[at + 1:], lines[:at] + [lines[numbers.below(len(lines))]] + lines[at:],
-                                          lines[:at + 1] + lines[at:]))
-                told = "\n".join(changed)
+                inner = numbers.one_of(([], [numbers.one_of(lines), lines[at]], [lines[at]] * 2))
+                told = "\n".join(lines[:at] + inner + lines[at + 1:])
                 self.check_text(told, bad_line(told))
 
     def test_journals_of_twenty_thousand_characters(self):

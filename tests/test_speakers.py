@@ -8,9 +8,9 @@ from meetbooks.speakers import Speaker, speak_alike, spoken_words
 from tests.plain import (
     ALONE, AWAY, CHAIN, COMING, EIGHT, EXAMPLE, GREAT, LONE, MOVING_TEXTS, NO_TUPLES, PAIR, ROW, STILL_TEXTS, TEXTS,
     THREE, TWO, Numbers, Plain, check_error, check_exact, check_wrong_weavings, error_of, odd_hall_text)
-from tests.plain_rules import FAIR_FORTY, FAIR_FORTY_ONE, FORTY_ONE
+from tests.plain_rules import FAIR_FORTY, FAIR_FORTY_ONE, FORTY_ONE, names_of
 from tests.plain_speakers import (
-    WORDS, Voice, bad_line, line_told, many_tuples, open_kinds, parting, speaker_text)
+    WORDS, Voice, bad_line, line_told, many_tuples, open_kinds, parting, parting_by_unions, speaker_text)
 
 TOGETHER = "hands a b\ntaken a b\nmeet x a\nmeet y a b"  # all rules are fair here
 FIVES = ("(y*,x,y*,x,y*,x,y*,x,y*,x)*,y*", "(x*,y,x*,y,x*,y,x*,y,x*,y)*,x*")
@@ -59,7 +59,8 @@ class SpeakerTest(unittest.TestCase):
                 ("say a\nsay b", 2), ("say a\nsay b ?", 2), ("say a ?\n", 2), ("say a ?\n\nsay b", 2), ("\nsay a", 1),
                 ("say a ?\nsay b\nsay c", 3), (good, None), (good + "\n", 6), (good + "\nsay f", 6),
                 (good + "\nsay f ?", 6), (good.replace("say e", "say e ?"), 5), (good.replace("say e", "say e x x"), 5),
-                (good.replace("say e", ""), 5), (good.replace("\nsay e", ""), 5), (good.replace("say c z*", "say c"), 4),
+                (good.replace("say e", ""), 5), (good.replace("\nsay e", ""), 5),
+                (good.replace("say c z*", "say c"), 4),
                 ("say a (x*|y*)*,(z*\nsay b", 1), ("say a " + "(" * 10 + "x" + ")" * 10 + "\nsay b", None),
                 ("say a " + "(" * 11 + "x" + ")" * 11 + "\nsay b", 1), ("say a x|" + " " * 197 + "x\nsay b", None),
                 ("say a x|" + " " * 198 + "x\nsay b", 1), ("say a ?\nsay b\t", 2)):
@@ -199,21 +200,35 @@ class SpeakAlikeTest(unittest.TestCase):
                             Speaker(Hall(hall_text), other))
                 continue
             answer = speak_alike(Speaker(Hall(hall_text), one), Speaker(Hall(hall_text), other))
-            least = parting(mine, its, 5 if len(open_kinds(mine.plain)) < 4 else 4)
-            self.check_answer(answer, least, mine, its)
+            self.check_answer(answer, mine, its)
             told[answer[0]] += 1
         self.assertGreater(min(told.values()), 60)
 
-    def check_answer(self, answer, least, mine, its):
-        if least is not None:
-            check_exact(self, answer, ("parts", least))
-        elif answer[0] == "parts":
-            weaving = answer[1]
-            self.assertGreater(len(weaving), 4)
-            self.assertEqual(mine.plain.pasts(weaving)[-1], set(range(len(weaving))))
-            self.assertNotEqual(mine.said(weaving, len(weaving) - 1), its.said(weaving, len(weaving) - 1))
-        else:
-            check_exact(self, answer, ("alike",))
+    def test_long_weavings(self):
+        # Rules that are alike but for rows in which some kinds have come.
+        numbers = Numbers(1309)
+        lengths = {}
+        for _ in range(260):
+            hall_text = numbers.one_of((TWO, ROW, THREE, CHAIN, TOGETHER, EIGHT))
+            names = names_of(hall_text)
+            base = numbers.one_of(("(?,?,?)*", "(?,?,?,?)*", "?,?,?,(?,?)*", "?*"))
+            without = f"?*,{numbers.one_of(names)},?*&?*,{numbers.one_of(names)},?*"
+            texts = [f"say a {base}&!({without})\nsay b", f"say a {base}\nsay b"]
+            if error_of(Speaker, Hall(hall_text), texts[0]) is not None:
+                continue
+            mine, its = [Voice(hall_text, text) for text in texts]
+            answer = speak_alike(*[Speaker(Hall(hall_text), text) for text in texts])
+            self.check_answer(answer, mine, its)
+            many = len(answer[1]) if answer[0] == "parts" else 0
+            lengths[many] = lengths.get(many, 0) + 1
+        self.assertGreater(lengths[3] + lengths[4], 60)
+
+    def check_answer(self, answer, mine, its):
+        least = parting_by_unions(mine, its)
+        check_exact(self, answer, ("alike",) if least is None else ("parts", least))
+        short = parting(mine, its, 5 if len(open_kinds(mine.plain)) < 4 else 3)
+        if short is not None or (least is not None and len(least) < 4):
+            check_exact(self, short, least)
 
     def test_the_definition_with_meetings_beside_the_past(self):
         # Of all weavings, those with meetings that the last one does not hang on as well.

@@ -195,7 +195,8 @@ class RoundTest(unittest.TestCase):
         for place in range(700):
             hall_text = (RING, RING, EIGHT, CHAIN, ROW, THREE)[place % 6]
             text = waits_text(numbers, hall_text, -9, 9)
-            weaving = RING_ROUND[:5 + numbers.below(3)] if hall_text == RING else Plain(hall_text).odd_weaving(numbers, 9)
+            weaving = Plain(hall_text).odd_weaving(numbers, 9)
+            weaving = RING_ROUND[:5 + numbers.below(3)] if hall_text == RING else weaving
             slow = (1, 3) if hall_text == RING else ()
             weaving = tuple((kind, 40 if kind in slow else numbers.below(3)) for kind, _ in weaving)
             clock = PlainClock(hall_text, text, weaving)

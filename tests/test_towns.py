@@ -32,7 +32,8 @@ def renamed_text(text, hands, kinds):
         words = line.split(" ")
         if words[0] == "meet":
             # A kind may have the name of a hand; behind it stand hands and words that no hand has as its name.
-            told.append(" ".join(["meet", next(names)] + [word if word in CHANGES else new[word] for word in words[2:]]))
+            rest = [word if word in CHANGES else new[word] for word in words[2:]]
+            told.append(" ".join(["meet", next(names)] + rest))
         else:
             told.append(" ".join([words[0]] + [new[word] for word in words[1:]]))
     return "\n".join(told)
@@ -79,8 +80,8 @@ class RenamedTest(unittest.TestCase):
         hall = Hall(EXAMPLE)
         self.assertTrue(renamed_hall(hall, ("a", "b", "c"), ("m", "n", "o", "p", "q")) == hall)
         told = renamed_hall(kinds=("n", "m", "o", "a", "q"), hands=("c", "a", "b"), hall=hall)
-        check_exact(self, told.text, "hands c a b\ntaken c a\nright b c\nmeet n c a\nmeet m c begins b\nmeet o b c ends b\n"
-                                     "meet a a\nmeet q c a gives b")
+        check_exact(self, told.text, "hands c a b\ntaken c a\nright b c\nmeet n c a\nmeet m c begins b\n"
+                                     "meet o b c ends b\nmeet a a\nmeet q c a gives b")
         check_exact(self, renamed_hall(Hall(TWO), ("x", "y"), ("y", "x", "a")).text,
                     "hands x y\ntaken x y\nmeet y x\nmeet x y\nmeet a x y")
 
@@ -129,8 +130,9 @@ class RenamedTest(unittest.TestCase):
     def test_wrong_names(self):
         hall = Hall(TWO)
         hands, kinds = ("a", "b"), ("x", "y", "z")
-        wrong = [(), ("a",), ("a", "b", "c", "d"), ["a", "b"], ("a", ["b"]), ("p", 0), ("p", True), (None, "p"), ("p", ""),
-                 ("p", "abcdefghi"), ("p", "B"), ("p", "b1"), ("p", " b"), ("p", "b "), ("p", "b\n"), ("p", "p"),
+        wrong = [(), ("a",), ("a", "b", "c", "d"), ["a", "b"], ("a", ["b"]), ("p", 0), ("p", True), (None, "p"),
+                 ("p", ""), ("p", "abcdefghi"), ("p", "B"), ("p", "b1"), ("p", " b"), ("p", "b "), ("p", "b\n"),
+                 ("p", "p"),
                  ("p", ("b",)), (Hall(TWO), "p"), "ab"]
         wrong += [("p", word) for word in RESERVED] + list(NO_TUPLES)
         for value in wrong:
@@ -244,7 +246,8 @@ class SplitTest(unittest.TestCase):
         for value in NO_INTEGERS + (-1, 5, GREAT, -GREAT):
             check_error(self, "BadHand", value, split_hand, Hall(EIGHT), value, None)
             check_error(self, "BadHand", value, split_hand, Hall(EIGHT), value, "twin")
-        for value in [value for value in NO_TUPLES if value != "ab"] + list(RESERVED) + ["a", "e", "abcdefghi", "A", "a1", " f", "f ", "", ("f",), ()]:
+        wrong = [value for value in NO_TUPLES if value != "ab"] + list(RESERVED)
+        for value in wrong + ["a", "e", "abcdefghi", "A", "a1", " f", "f ", "", ("f",), ()]:
             check_error(self, "BadNames", value, split_hand, Hall(EIGHT), 0, value)
         check_error(self, "Full", ("a", "b", "c", "d", "e"), split_hand, Hall(EIGHT), 0, "f")
         check_error(self, "Full", ("a", "b", "c", "d", "e"), split_hand, Hall(ALONE), 4, "p")
@@ -353,7 +356,8 @@ class FinerTest(unittest.TestCase):
         rows = ((0,), (1,), (1, 0))
         one, its = ((2, 0), (0, 0)), ((1, 0), (0, 0), (0, 0))
         self.assertNotEqual(same_story(Hall(TWO), one, its), ("same",))
-        check_exact(self, same_story(other, *[finer_weaving(Hall(TWO), other, rows, each) for each in (one, its)]), ("same",))
+        led = [finer_weaving(Hall(TWO), other, rows, each) for each in (one, its)]
+        check_exact(self, same_story(other, *led), ("same",))
 
     def test_hands_at_first(self):
         # Who has the right to begin whom does not matter, only who is here.
@@ -362,7 +366,8 @@ class FinerTest(unittest.TestCase):
         check_exact(self, finer_weaving(hall, other, ((0, 1),), ((0, 4),)), ((0, 4), (1, 0)))
         for text in ("hands a b c\ntaken a b c\nmeet y b", "hands a b c\ntaken a\nright b a\nright c a\nmeet y b",
                      "hands a c b\ntaken a c\nright b a\nmeet y b", "hands a b\ntaken a b\nmeet y b",
-                     "hands a b c d\ntaken a b\nright c a\nright d a\nmeet y b", "hands a b d\ntaken a b\nright d a\nmeet y b"):
+                     "hands a b c d\ntaken a b\nright c a\nright d a\nmeet y b",
+                     "hands a b d\ntaken a b\nright d a\nmeet y b"):
             names = Hall(text).hands
             check_error(self, "OtherHands", names, finer_weaving, hall, Hall(text), ((0,),), ())
             check_error(self, "OtherHands", names, finer_weaving, hall, Hall(text), None, None)
@@ -380,17 +385,20 @@ class FinerTest(unittest.TestCase):
         hall, other = Hall(TWO), Hall("hands a b\ntaken a b\nmeet p a\nmeet q b\nmeet r a b")
         good = ((0,), (1,), (2, 0))
         for value in NO_TUPLES + (
-                (), good[:2], (*good, (0,)), [*good], ([0], *good[1:]), ((), *good[1:]), ((0,), (1,), ()), ((1,), (1,), (2,)),
-                ((0,), (0,), (2,)), ((2,), (1,), (2,)), ((0, 1), (1,), (2,)), ((0,), (1,), (3,)), ((0,), (1,), (-1,)),
+                (), good[:2], (*good, (0,)), [*good], ([0], *good[1:]), ((), *good[1:]), ((0,), (1,), ()),
+                ((1,), (1,), (2,)), ((0,), (0,), (2,)), ((2,), (1,), (2,)), ((0, 1), (1,), (2,)), ((0,), (1,), (3,)),
+                ((0,), (1,), (-1,)),
                 ((False,), (1,), (2,)), ((0,), (True,), (2,)), ((0,), (1,), (2, None)), ((0,), (1,), ("r",)),
-                ((0,), (1,), ((2,),)), ((0,), (1,), 2), ((0,), (1,), None), ((0,), (1,), (GREAT,)), ((0,), (1,), Hall(TWO))):
+                ((0,), (1,), ((2,),)), ((0,), (1,), 2), ((0,), (1,), None), ((0,), (1,), (GREAT,)),
+                ((0,), (1,), Hall(TWO))):
             check_error(self, "BadRows", value, finer_weaving, hall, other, value, ())
             check_error(self, "BadRows", value, finer_weaving, hall, other, value, None)
         for value in NO_TUPLES:
             check_error(self, "BadWeaving", -1, finer_weaving, hall, other, good, value)
         for value in NO_MEETINGS + ((3, 0),):
             check_error(self, "BadWeaving", 1, finer_weaving, hall, other, good, ((0, 0), value))
-        check_error(self, "BadWeaving", 0, finer_weaving, Hall(AWAY), Hall(AWAY), ((0,), (1,), (2,), (3,), (4,)), ((2, 0),))
+        rows = tuple((kind,) for kind in range(5))
+        check_error(self, "BadWeaving", 0, finer_weaving, Hall(AWAY), Hall(AWAY), rows, ((2, 0),))
 
     def test_still_halls_of_the_tests(self):
         for hall_text in TEXTS:

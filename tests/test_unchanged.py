@@ -116,7 +116,8 @@ class UnchangedTest(unittest.TestCase):
 
     def test_halls_and_desks_that_are_made(self):
         hall, text = Hall(TWO), journals.journal(desk())
-        for call, given in ((towns.renamed_hall, (hall, ("x", "y"), ("a", "b", "c"))), (towns.split_hand, (hall, 0, "c")),
+        names = ("x", "y"), ("a", "b", "c")
+        for call, given in ((towns.renamed_hall, (hall, *names)), (towns.split_hand, (hall, 0, "c")),
                             (journals.read_journal, (text,)), (Desk.copy, (desk(),))):
             before = repr(made(given))
             first, second = call(*given), call(*given)

@@ -109,7 +109,8 @@ class OnceTest(unittest.TestCase):
         """Along ascending cuts, one behind the other."""
         hall = scale.hall
         many = cuts_many(hall, weaving)
-        cuts = [nth_cut(hall, weaving, number) for number in range(0, many, 1 + many // 12)] + [nth_cut(hall, weaving, many - 1)]
+        some = [*range(0, many, 1 + many // 12), many - 1]
+        cuts = [nth_cut(hall, weaving, number) for number in some]
         last = cuts[0]
         done = value_between(scale, weaving, (), numbers_of(plain, weaving, last))
         for cut in cuts[1:]:
@@ -175,7 +176,8 @@ class StrangersTest(unittest.TestCase):
                         knows(rule, one, hands), spoken_words(speaker, one), ends_of(waits, one),
                         heaviest_chain(waits, one)[0], must_fit(hall, one, wishes), cuts_many(hall, one),
                         story_levels(hall, one), are_alike(hall, one, weaving, hands), logs_of(hall, one),
-                        [[None if at is None else one[at] for at in news_of(hall, one, hand)] for hand in range(len(hall.hands))],
+                        [[None if at is None else one[at] for at in news_of(hall, one, hand)]
+                         for hand in range(len(hall.hands))],
                         [same_story(hall, tuple(one[at] for at in view_of(hall, one, hand)),
                                     tuple(weaving[at] for at in view_of(hall, weaving, hand))) for hand in hands])
 
@@ -204,7 +206,8 @@ class HereAndBoundedTest(unittest.TestCase):
                     if book is not None:
                         self.assertLessEqual(parts_in(book), parts)
                     if book is not None and scale.word != "both":
-                        self.assertTrue(all(abs(leaf) <= greatest + sizes for leaf in leaves_in(book) if type(leaf) is int))
+                        leaves = [leaf for leaf in leaves_in(book) if type(leaf) is int]
+                        self.assertLessEqual(max(map(abs, leaves)), greatest + sizes)
 
 
 class CommuteTest(unittest.TestCase):
